@@ -1,0 +1,1 @@
+"""Changewise: programs whose answers are kept up by their own derivatives."""

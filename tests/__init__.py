@@ -1,0 +1,1 @@
+"""Tests of changewise; README.md tells how they are run."""
