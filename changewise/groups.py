@@ -31,6 +31,19 @@ def times_in(kind, number, one):
     return ("pair", times_in(kind[1], number, one[1]), times_in(kind[2], number, one[2]))
 
 
+def total_in(kind, values):
+    """The sum of any number of values of a group kind.
+
+    All bags are gathered at once: one by one each sum would walk through all that is there so far.
+    """
+    if kind[0] == "num":
+        return sum(values)
+    if kind[0] == "bag":
+        return gathered([row for value in values for row in value])
+    firsts = total_in(kind[1], [value[1] for value in values])
+    return ("pair", firsts, total_in(kind[2], [value[2] for value in values]))
+
+
 def gathered(pairs):
     """The bag of these pairs (VALUE, TIMES), in any order, a VALUE more than once too.
 

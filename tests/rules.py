@@ -12,6 +12,8 @@ BUILTINS = set(
     "isinstance ord repr any all divmod pow map iter next Exception ValueError TypeError KeyError IndexError "
     "LookupError ZeroDivisionError ArithmeticError OverflowError RuntimeError NotImplementedError AttributeError "
     "StopIteration NotImplemented property staticmethod classmethod super".split())
+# A session that shows values binds "_" among the builtins.
+PYTHONS_OWN = set(dir(builtins)) - {"_"}
 METHODS = set(
     "append clear copy count endswith extend find get index insert isalnum isalpha isdigit islower isspace isupper "
     "items join keys ljust lower lstrip partition pop remove replace reverse rfind rjust rpartition rsplit rstrip "
@@ -60,6 +62,8 @@ def module_breaches(tree):
             bound.append(node.targets[0].id)
             if [part for part in ast.walk(node.value) if isinstance(part, (ast.Call, ast.Lambda, ast.comprehension))]:
                 found.append((node.lineno, "L3 no plain value"))
+            if [part for part in ast.walk(node.value) if isinstance(part, (ast.List, ast.Dict)) and part is not node.value]:
+                found.append((node.lineno, "L15 a list or dict within another value"))
         elif not (at == 0 and isinstance(node, ast.Expr) and isinstance(node.value, ast.Constant)):
             found.append((node.lineno, "L3 a statement at module level"))
     found += [(0, "L15 bound twice: " + name) for name in set(bound) if bound.count(name) > 1]
@@ -88,7 +92,7 @@ def shadow_breaches(tree):
             found.append((node.lineno, "L15 a name of an import or a class: " + name))
         if isinstance(node, (ast.FunctionDef, ast.ClassDef)):
             name = node.name
-        if name is not None and name in dir(builtins):
+        if name is not None and name in PYTHONS_OWN:
             found.append((node.lineno, "L15 a name of a builtin: " + name))
         if name in NAMES_OUT or name == "type":
             found.append((node.lineno, "L17 a barred name: " + name))
@@ -100,11 +104,13 @@ def node_breaches(node):
         return ["L6 a statement that is not allowed"]
     if isinstance(node, ast.FunctionDef):
         return function_breaches(node)
+    if isinstance(node, ast.ClassDef) and not node.name[0].isalpha():
+        return ["L12 a class with no letter first: " + node.name]
     if isinstance(node, ast.Constant):
         return constant_breaches(node)
     if isinstance(node, ast.BinOp) and isinstance(node.op, (ast.Div, ast.MatMult)):
         return ["L7 an operator that is not allowed"]
-    if isinstance(node, ast.Name) and node.id in dir(builtins) and node.id not in BUILTINS:
+    if isinstance(node, ast.Name) and node.id in PYTHONS_OWN and node.id not in BUILTINS:
         return ["L8 a builtin that is not allowed: " + node.id]
     if isinstance(node, ast.Call):
         return call_breaches(node)

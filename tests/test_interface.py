@@ -14,7 +14,28 @@ FUNCTIONS = {
         "sum_of": ["kind", "one", "two"], "opposite": ["kind", "one"], "many_of": ["kind", "number", "one"],
         "bag_of": ["kind", "pairs"], "count_of": ["kind", "bag", "value"], "support_of": ["kind", "bag"],
     },
+    "changewise.terms": {
+        "is_name": ["value"], "is_term": ["value"], "is_written": ["value"], "parts_of": ["term"], "depth_of": ["term"],
+        "free_names": ["term"], "part_at": ["term", "path"],
+    },
+    "changewise.text": {
+        "read_kind": ["text"], "read_term": ["text"], "read_value": ["kind", "text"], "read_sheet": ["text"],
+        "show_kind": ["kind"], "show_term": ["term"], "show_value": ["kind", "value"], "show_sheet": ["sheet"],
+    },
+    "changewise.sheets": {
+        "is_sound": ["value"], "kinds_in": ["sheet"], "shown": ["sheet"], "hangs_on": ["sheet", "name"],
+        "is_edit": ["sheet", "value"], "edited": ["sheet", "edit"], "back_edit": ["sheet", "edit"],
+        "joined_edits": ["sheet", "one", "two"], "looked_at": ["sheet", "edit"],
+    },
 }
+
+METHODS = {
+    ("changewise.sheets", "Keeper"): {
+        "__init__": ["self", "sheet"], "shown": ["self"], "value": ["self", "name"], "edit": ["self", "edit"],
+        "undo": ["self"], "sheet": ["self"],
+    },
+}
+PROPERTIES = {("changewise.sheets", "Keeper"): ["looked", "calls", "done"]}
 
 
 class InterfaceTest(unittest.TestCase):
@@ -24,12 +45,26 @@ class InterfaceTest(unittest.TestCase):
             for name, parameters in functions.items():
                 with self.subTest(name):
                     found = getattr(importlib.import_module(module), name)
-                    self.assertTrue(inspect.isfunction(found))
                     self.assertEqual((found.__module__, found.__name__), (module, name))
-                    told = inspect.signature(found).parameters.values()
-                    self.assertEqual([each.name for each in told], parameters)
-                    self.assertEqual({each.kind for each in told}, {inspect.Parameter.POSITIONAL_OR_KEYWORD})
-                    self.assertEqual({each.default for each in told}, {inspect.Parameter.empty})
+                    self.check_parameters(found, parameters)
+
+    def test_methods_stand_in_the_class_itself(self):
+        for (module, name), methods in METHODS.items():
+            made = getattr(importlib.import_module(module), name)
+            self.assertEqual((made.__module__, made.__name__), (module, name))
+            for method, parameters in methods.items():
+                with self.subTest(method):
+                    self.check_parameters(vars(made)[method], parameters)
+            for told in PROPERTIES[module, name]:
+                self.assertIsInstance(vars(made)[told], property)
+                self.assertIsNone(vars(made)[told].fset)
+
+    def check_parameters(self, found, parameters):
+        self.assertTrue(inspect.isfunction(found))
+        told = inspect.signature(found).parameters.values()
+        self.assertEqual([each.name for each in told], parameters)
+        self.assertEqual({each.kind for each in told}, {inspect.Parameter.POSITIONAL_OR_KEYWORD})
+        self.assertEqual({each.default for each in told}, {inspect.Parameter.empty})
 
 
 if __name__ == "__main__":

@@ -53,12 +53,24 @@ class RulesTest(unittest.TestCase):
         for name in reached:
             self.assertNotIn(name, reached[name])
 
+    def test_no_name_is_a_method_and_an_attribute(self):
+        methods, attributes = set(), set()
+        for path in sources():
+            for node in ast.walk(ast.parse(path.read_text())):
+                if isinstance(node, ast.ClassDef):
+                    methods |= {each.name for each in node.body if isinstance(each, ast.FunctionDef)}
+                if isinstance(node, ast.Attribute) and isinstance(node.ctx, ast.Store):
+                    attributes.add(node.attr)
+        self.assertIn("edit", methods)
+        self.assertIn("given", attributes)
+        self.assertEqual(methods & attributes, set())
+
     def test_breaches_are_found(self):
         for text in ("import math", "from os import path", "x = len([])", "x = 1\nx = 2", "def f(list):\n    pass",
                      "def f(a):\n    return a / 2", "def f():\n    return 1.5", "def f():\n    return '5%'",
                      "def f():\n    return id(1)", "def f(open):\n    pass", "x = '\u00e9'", "def f():\n" + "    f()\n" * 41,
                      "from changewise.kinds import is_kind as known", "def f(a, b):\n    return a is b", "# " + "-" * 120,
-                     "class A:\n    def __del__(self):\n        pass", "def f():\n    return 'a type'", "f()"):
+                     "class A:\n    def __del__(self):\n        pass", "def f():\n    return 'a type'", "f()", "class _A:\n    pass", "X = [[1], [2]]"):
             with self.subTest(text):
                 self.assertNotEqual(breaches("file.py", text), [])
 

@@ -24,6 +24,61 @@ VALUES = """
 [(), ((('pair', 1, 2), 2), (('pair', 2, 1), -4)), ('pair', 0, ()), 2, 0, ((('pair', 2, 1), 1),)]
 """
 
+TERMS = r"""
+>>> from changewise.terms import depth_of, free_names, is_name, is_term, is_written, part_at, parts_of
+>>> twice = ("fn", "x", num, ("plus", ("name", "x"), ("name", "y")))
+>>> [is_name("x1"), is_name("x'"), is_name("let"), is_name("1x"), parts_of(twice), depth_of(twice), free_names(twice), part_at(twice, (3, 1))]
+[True, False, False, False, 4, 3, ('y',), ('name', 'x')]
+>>> changed = ("let", "x'", ("name", "x'"), ("name", "x'"))
+>>> [is_term(changed), is_written(changed), free_names(changed), is_term(("number", True)), is_term(("zero", unit))]
+[True, False, ("x'",), False, False]
+"""
+
+TEXT = r"""
+>>> from changewise.text import read_kind, read_sheet, read_term, read_value, show_kind, show_sheet, show_term, show_value
+>>> [show_kind(map_kind), show_kind(("fun", ("fun", num, num), ("either", num, ("either", unit, bag)))), read_kind("num|unit|num") == ("either", ("either", num, unit), num)]
+['num -> bag num', '(num -> num) -> num | (unit | bag (num, num))', True]
+>>> [show_value(bag, some), read_value(bag, "{(2,1): 2, (1,2): -1}") == some, show_value(TRUTH, ("left", ())), show_value(bag, ()), read_value(("bag", num), "{7: 1, 7: -1}")]
+['{(1, 2): -1, (2, 1): 2}', True, 'left(())', '{}', ()]
+>>> show_term(("call", twice, ("minus", ("number", 3))))
+'(fn x: num. x + y)(-(3))'
+>>> [read_term("fn x:num.x+y") == twice, read_term("- 3"), read_term("-3"), show_term(("times", ("plus", ("name", "a"), ("number", -1)), ("minus", ("name", "b'"))))]
+[True, ('minus', ('number', 3)), ('number', -3), "(a + -1) * -b'"]
+>>> show_term(read_term("case a<b{u.total(fn v:num.one(v),c);w.zero(bag num)}"))
+'case a < b {u. total(fn v: num. one(v), c); w. zero(bag num)}'
+>>> sheet = (("input", "y", num, 3), ("cell", "f", twice), ("cell", "z", ("call", ("name", "f"), ("name", "y"))))
+>>> [show_sheet(sheet), read_sheet(show_sheet(sheet)) == sheet]
+['input y: num = 3;\ncell f = fn x: num. x + y;\ncell z = f(y);', True]
+>>> read_term("f(a, b)")
+raises InvalidText(line=1, column=4)
+>>> read_term("let x = 1\n  x + 1")
+raises InvalidText(line=2, column=3)
+>>> read_kind("bag bag num")
+raises InvalidText(line=1, column=5)
+"""
+
+# Names that the sessions between those of text.py and sheets.py bind.
+BETWEEN = """
+>>> num, bag, x, y, b = ("num",), ("bag", ("num",)), ("name", "x"), ("name", "y"), ("name", "b")
+"""
+
+SHEETS = r"""
+>>> from changewise.sheets import Keeper, back_edit, edited, hangs_on, is_edit, joined_edits, kinds_in, looked_at, shown
+>>> a, b, by, s = ("name", "a"), ("name", "b"), ("name", "by"), ("name", "s")
+>>> sheet = (("input", "a", num, 3), ("input", "b", bag, ((1, 2), (5, 1))), ("cell", "by", ("fn", "x", num, ("times", x, a))), ("cell", "s", ("total", by, b)), ("cell", "t", ("plus", s, ("number", 1))))
+>>> [kinds_in(sheet)[2:4], shown(sheet)[2:], hangs_on(sheet, "t"), looked_at(sheet, (("b", ((5, 1),)),)), is_edit(sheet, (("b", ()), ("a", 1)))]
+[(('by', ('fun', ('num',), ('num',))), ('s', ('num',))), (('s', 21), ('t', 22)), ('a', 'b'), ('s', 't'), False]
+>>> keeper = Keeper(sheet)
+>>> [keeper.edit((("b", ((5, 1),)),)), keeper.looked, keeper.value("t"), keeper.done]
+[(('b', ((5, 1),)), ('s', 15), ('t', 15)), ('s', 't'), 37, 1]
+>>> [keeper.edit((("a", 1),)), keeper.looked, keeper.shown()[2:], keeper.shown() == shown(keeper.sheet())]
+[(('a', 1), ('s', 12), ('t', 12)), ('by', 's', 't'), (('s', 48), ('t', 49)), True]
+>>> [keeper.undo(), keeper.edit((("a", 0),)), keeper.looked, keeper.calls, keeper.done, keeper.shown()[2:]]
+[(('a', -1), ('s', -12), ('t', -12)), (), (), 0, 2, (('s', 36), ('t', 37))]
+>>> [joined_edits(sheet, (("a", 1),), (("a", 2), ("b", ((1, -2),)))), back_edit(sheet, (("b", ((5, 1),)),)), edited(sheet, (("a", 1),))[0]]
+[(('a', 3), ('b', ((1, -2),))), (('b', ((5, -1),)),), ('input', 'a', ('num',), 4)]
+"""
+
 WRONG = """
 >>> depth_of_kind(("bag", bag))
 raises InvalidKind(given=('bag', ('bag', ('pair', ('num',), ('num',)))))
@@ -33,16 +88,34 @@ raises InvalidValue(given=True)
 raises InvalidPairs(index=1)
 """
 
+WRONG_SHEETS = """
+>>> free_names(("plus", x, ("name", "X")))
+raises InvalidTerm(place=(2, 1))
+>>> read_sheet("cell z = z;")
+raises InvalidSheet(index=0)
+>>> kinds_in((("cell", "z", ("plus", ("number", 1), ("unit",))),))
+raises InvalidSheet(index=0)
+>>> keeper.edit((("a", 1), ("s", 1)))
+raises InvalidEdit(index=1)
+>>> hangs_on(sheet, "x")
+raises UnknownName(given='x')
+>>> keeper.value("by")
+raises NotData(kind=('fun', ('num',), ('num',)))
+>>> Keeper(sheet).undo()
+raises NothingDone()
+"""
+
 
 class SessionTest(unittest.TestCase):
 
     def test_sessions_go_on_from_module_to_module(self):
         names = {}
-        for text in (KINDS, VALUES, WRONG):
+        for text in (KINDS, VALUES, WRONG, TERMS, TEXT, BETWEEN, SHEETS, WRONG_SHEETS):
             run_session(self, text, names)
 
     def test_each_line_is_run(self):
-        self.assertEqual([len(steps_of(text)) for text in (KINDS, VALUES, WRONG)], [4, 6, 3])
+        texts = (KINDS, VALUES, WRONG, TERMS, TEXT, SHEETS, WRONG_SHEETS)
+        self.assertEqual([len(steps_of(text)) for text in texts], [4, 6, 3, 5, 11, 9, 7])
 
 
 if __name__ == "__main__":
