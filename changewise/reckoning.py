@@ -28,6 +28,18 @@ class Reckoner:
     def meaning(self, term, scope):
         """What a kinded term means, the names meaning what a dict tells."""
         self._due.append(("reckon", term, scope))
+        return self._done()
+
+    def told(self, function, values):
+        """What the meaning of a function tells of values, one behind the other."""
+        found = function
+        for value in values:
+            self._enter(found, value)
+            found = self._done()
+        return found
+
+    def _done(self):
+        """What is made when nothing is due any more."""
         while self._due:
             self._do(self._due.pop())
         return self._made.pop()

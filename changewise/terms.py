@@ -74,6 +74,13 @@ def check_term(term):
         raise InvalidTerm(place)
 
 
+def check_written(written):
+    """Raise the error of what is no term as written."""
+    place = _place_in_written(written)
+    if place is not None:
+        raise InvalidTerm(place)
+
+
 def _inner_at(term, index):
     # True is equal to 1, but no index.
     if not is_whole(index):

@@ -12,8 +12,12 @@ class Case(unittest.TestCase):
         self.assertIs(type(caught.exception), error)
         self.assertEqual(sorted(vars(caught.exception)), sorted(attributes))
         for name, told in attributes.items():
-            # True and 1 are equal, so what was passed is asked for itself.
-            self.assertIs(getattr(caught.exception, name), told)
+            # True and 1 are equal, so what was passed is asked for itself; what is found is made anew.
+            found = getattr(caught.exception, name)
+            if name == "given":
+                self.assertIs(found, told)
+            else:
+                self.assert_same(found, told)
 
     def assert_same(self, found, expected):
         """Equal, True and 1 being told apart."""

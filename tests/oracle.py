@@ -113,8 +113,19 @@ def plus(kind, one, two):
     return tuple(sorted((value, times) for value, times in found.items() if times))
 
 
+def changes(kind):
+    """The kind of the changes of a kind."""
+    if kind[0] == "pair":
+        return ("pair", changes(kind[1]), changes(kind[2]))
+    if kind[0] == "either":
+        return ("either", ("either", changes(kind[1]), changes(kind[2])), kind)
+    return ("fun", kind[1], ("fun", changes(kind[1]), changes(kind[2]))) if kind[0] == "fun" else kind
+
+
 def led(kind, value, change):
-    """A value of a data kind led by a change."""
+    """A value led by a change; of functions, too, which are Python's here."""
+    if kind[0] == "fun":
+        return lambda told: led(kind[2], value(told), change(told)(still(kind[1], told)))
     if kind[0] == "either":
         if change[0] == "right":
             return change[1]
@@ -126,7 +137,9 @@ def led(kind, value, change):
 
 
 def less(kind, new, old):
-    """The difference of two values of a data kind."""
+    """The difference of two values; of functions, too."""
+    if kind[0] == "fun":
+        return lambda told: lambda change: less(kind[2], new(led(kind[1], told, change)), old(told))
     if kind[0] == "either":
         if new[0] != old[0]:
             return ("right", new)
@@ -134,6 +147,54 @@ def less(kind, new, old):
     if kind[0] == "pair":
         return ("pair", less(kind[1], new[1], old[1]), less(kind[2], new[2], old[2]))
     return () if kind == UNIT else plus(kind, new, many(kind, -1, old))
+
+
+def still(kind, value):
+    return less(kind, value, value)
+
+
+def fits(kind, value, change):
+    """Whether a change of a data kind fits."""
+    if kind[0] == "pair":
+        return all(fits(kind[at], value[at], change[at]) for at in (1, 2))
+    if kind[0] == "either" and change[0] == "left":
+        return change[1][0] == value[0] and fits(kind[1 if value[0] == "left" else 2], value[1], change[1][1])
+    return True
+
+
+def joined(kind, value, one, two):
+    """One change of a data kind that fits, and then another one that fits there."""
+    if kind[0] == "pair":
+        return ("pair",) + tuple(joined(kind[at], value[at], one[at], two[at]) for at in (1, 2))
+    if kind[0] == "either":
+        if two[0] == "right":
+            return two
+        if one[0] == "right":
+            return ("right", led(kind, one[1], two))
+        side = kind[1] if value[0] == "left" else kind[2]
+        return ("left", (value[0], joined(side, value[1], one[1][1], two[1][1])))
+    return () if kind == UNIT else plus(kind, one, two)
+
+
+def is_value(kind, value):
+    """Whether a thing, whatever it is, is a value of a data kind."""
+    if kind == NUM:
+        return type(value) is int
+    if type(value) is not tuple:
+        return False
+    if kind == UNIT:
+        return value == ()
+    if kind[0] == "bag":
+        rows = [row for row in value if type(row) is tuple and len(row) == 2]
+        if len(rows) != len(value) or not all(is_value(kind[1], held) and type(times) is int for held, times in rows):
+            return False
+        held = [held for held, _ in rows]
+        return all(times for _, times in rows) and held == sorted(set(held))
+    if not value or type(value[0]) is not str:
+        return False
+    if kind[0] == "pair":
+        return value[0] == "pair" and len(value) == 3 and all(is_value(kind[at], value[at]) for at in (1, 2))
+    return len(value) == 2 and value[0] in ("left", "right") and is_value(kind[1 + (value[0] == "right")], value[1])
 
 
 class Calls:
@@ -150,63 +211,82 @@ class Calls:
 
 def meaning(kinds, means, term, calls):
     """What a term means; functions are Python's, each call of which is counted."""
-    def at(index):
-        return meaning(kinds, means, term[index], calls)
+    return read(kinds, term)[1](means, calls)
 
-    def bound(name, kind, value, body):
-        return meaning({**kinds, name: kind}, {**means, name: value}, body, calls)
 
+def read(kinds, term):
+    """The kind of a term that has one, and what tells its meaning for values of the names and a counter."""
     word = term[0]
     if word == "name":
-        return means[term[1]]
+        return kinds[term[1]], lambda means, calls: means[term[1]]
     if word == "fn":
-        return calls.function(lambda value: bound(term[1], term[2], value, term[3]))
+        kind, body = read({**kinds, term[1]: term[2]}, term[3])
+        return ("fun", term[2], kind), lambda means, calls: calls.function(
+            lambda value: body({**means, term[1]: value}, calls))
     if word == "let":
-        return bound(term[1], kind_of(kinds, term[2]), at(2), term[3])
-    if word == "unit":
-        return ()
-    if word == "number":
-        return term[1]
-    if word == "zero":
-        return zero(term[1])
-    if word == "left":
-        return ("left", at(1))
-    if word == "right":
-        return ("right", at(2))
+        told, first = read(kinds, term[2])
+        kind, body = read({**kinds, term[1]: told}, term[3])
+        return kind, lambda means, calls: body({**means, term[1]: first(means, calls)}, calls)
     if word == "case":
-        sides, told = kind_of(kinds, term[1]), at(1)
-        if told[0] == "left":
-            return bound(term[2], sides[1], told[1], term[3])
-        return bound(term[4], sides[2], told[1], term[5])
-    if word == "is":
-        one, two = at(2), at(3)
-        so = {"<": one < two, "<=": one <= two, "==": one == two}[term[1]]
-        return ("left", ()) if so else ("right", ())
-    one = at(1)
-    two = at(2) if len(term) > 2 else None
+        sides, told = read(kinds, term[1])
+        kind, left = read({**kinds, term[2]: sides[1]}, term[3])
+        _, right = read({**kinds, term[4]: sides[2]}, term[5])
+
+        def side(means, calls):
+            found = told(means, calls)
+            if found[0] == "left":
+                return left({**means, term[2]: found[1]}, calls)
+            return right({**means, term[4]: found[1]}, calls)
+        return kind, side
+    if word in ("unit", "number", "zero"):
+        kind, value = {"unit": (UNIT, ()), "number": (NUM, term[-1])}.get(word, (term[-1], None))
+        value = zero(kind) if word == "zero" else value
+        return kind, lambda means, calls: value
+    if word == "left":
+        kind, part = read(kinds, term[1])
+        return ("either", kind, term[2]), lambda means, calls: ("left", part(means, calls))
+    if word == "right":
+        kind, part = read(kinds, term[2])
+        return ("either", term[1], kind), lambda means, calls: ("right", part(means, calls))
+    parts = [read(kinds, part) for part in (term[2:] if word == "is" else term[1:])]
+    kind, deed = deed_of(term, [kind for kind, _ in parts])
+    return kind, lambda means, calls: deed(*[part(means, calls) for _, part in parts])
+
+
+def deed_of(term, kinds):
+    """The kind of a term that reckons with its parts, by theirs, and what it does."""
+    word, kind = term[0], kinds[0]
     if word == "call":
-        return one(two)
+        return kind[2], lambda call, value: call(value)
     if word == "plus":
-        return plus(kind_of(kinds, term), one, two)
+        return kind, lambda one, two: plus(kind, one, two)
     if word == "minus":
-        return many(kind_of(kinds, term), -1, one)
+        return kind, lambda one: many(kind, -1, one)
     if word == "times":
-        return one * two
+        return NUM, lambda one, two: one * two
     if word == "pair":
-        return ("pair", one, two)
+        return ("pair", *kinds), lambda one, two: ("pair", one, two)
     if word in ("first", "second"):
-        return one[1 if word == "first" else 2]
+        at = 1 if word == "first" else 2
+        return kind[at], lambda one: one[at]
+    if word == "is":
+        def tells(one, two):
+            return ("left" if {"<": one < two, "<=": one <= two, "==": one == two}[term[1]] else "right", ())
+        return TRUTH, tells
     if word == "one":
-        return ((one, 1),)
+        return ("bag", kind), lambda one: ((one, 1),)
     if word == "total":
-        kind = kind_of(kinds, term)
-        found = zero(kind)
-        for value, times in two:
-            found = plus(kind, found, many(kind, times, one(value)))
-        return found
+        return kind[2], lambda call, bag: total(kind[2], [(times, call(value)) for value, times in bag])
     if word == "count":
-        return dict(one).get(two, 0)
-    return tuple((value, 1) for value, times in one if times > 0)
+        return NUM, lambda bag, value: dict(bag).get(value, 0)
+    return kind, lambda bag: tuple((value, 1) for value, times in bag if times > 0)
+
+
+def total(kind, answers):
+    found = zero(kind)
+    for times, answer in answers:
+        found = plus(kind, found, many(kind, times, answer))
+    return found
 
 
 def names_in(term, bound=()):

@@ -22,6 +22,14 @@ FUNCTIONS = {
         "read_kind": ["text"], "read_term": ["text"], "read_value": ["kind", "text"], "read_sheet": ["text"],
         "show_kind": ["kind"], "show_term": ["term"], "show_value": ["kind", "value"], "show_sheet": ["sheet"],
     },
+    "changewise.kinding": {"kind_of": ["context", "term"]},
+    "changewise.meaning": {
+        "value_in": ["names", "term"], "calls_in": ["names", "term"], "applied": ["term", "values"],
+    },
+    "changewise.deriving": {
+        "derivative": ["context", "changing", "written"], "is_steady": ["context", "changing", "written"],
+        "adds": ["written", "one", "two"], "kept_change": ["names", "changes", "written"],
+    },
     "changewise.sheets": {
         "is_sound": ["value"], "kinds_in": ["sheet"], "shown": ["sheet"], "hangs_on": ["sheet", "name"],
         "is_edit": ["sheet", "value"], "edited": ["sheet", "edit"], "back_edit": ["sheet", "edit"],

@@ -57,9 +57,29 @@ raises InvalidText(line=2, column=3)
 raises InvalidText(line=1, column=5)
 """
 
-# Names that the sessions between those of text.py and sheets.py bind.
-BETWEEN = """
+DERIVING = r"""
+>>> from changewise.deriving import adds, derivative, is_steady, kept_change
+>>> from changewise.kinding import kind_of
+>>> from changewise.meaning import applied, calls_in, value_in
 >>> num, bag, x, y, b = ("num",), ("bag", ("num",)), ("name", "x"), ("name", "y"), ("name", "b")
+>>> double = ("fn", "x", num, ("plus", x, x))
+>>> [kind_of((), double), kind_of((("x", num),), ("is", "<", x, ("number", 3)))]
+[('fun', ('num',), ('num',)), ('either', ('unit',), ('unit',))]
+>>> kind_of((("x", num),), ("plus", x, ("unit",)))
+raises WrongTerm(place=(2,))
+>>> names, sums = (("b", bag, ((1, 2), (5, 1))), ("r", num, 3)), ("total", ("fn", "x", num, ("times", x, ("name", "r"))), b)
+>>> [value_in(names, sums), calls_in(names, sums), applied(double, (4,)), applied(("fn", "x", num, ("fn", "y", num, ("pair", y, x))), (1, 2))]
+[21, 2, 8, ('pair', 2, 1)]
+>>> [kept_change(names, (("b", ((5, 1),)),), sums), kept_change(names, (("r", 1),), sums), kept_change(names, (("b", ((5, 1),)), ("r", 1)), sums)]
+[15, 7, 27]
+>>> [is_steady((("b", bag), ("r", num)), ("b",), sums), is_steady((("b", bag), ("r", num)), ("b", "r"), sums)]
+[True, False]
+>>> many = ("total", ("fn", "x", num, ("number", 1)), b)
+>>> [adds(("fn", "b", bag, ("plus", ("number", 1), many)), ((1, 2),), ((5, 1),)), adds(("fn", "b", bag, ("times", many, many)), ((1, 1),), ((1, 1),))]
+[True, False]
+>>> squared = derivative((("x", num),), ("x",), ("times", x, x))
+>>> applied(("fn", "x", num, ("fn", "x'", num, squared)), (3, 1))
+7
 """
 
 SHEETS = r"""
@@ -88,6 +108,25 @@ raises InvalidValue(given=True)
 raises InvalidPairs(index=1)
 """
 
+WRONG_DERIVING = """
+>>> kind_of((("X", num),), double)
+raises InvalidContext(index=0)
+>>> value_in((), double)
+raises NotData(kind=('fun', ('num',), ('num',)))
+>>> calls_in((("x", num, True),), x)
+raises InvalidNames(index=0)
+>>> applied(double, (4, 4))
+raises InvalidValues(index=1)
+>>> derivative((("x", num),), ("x", "y"), x)
+raises InvalidChanging(index=1)
+>>> is_steady((), (), ("name", "x'"))
+raises InvalidTerm(place=(1,))
+>>> kept_change(names, (("b", ((5, 1),)), ("a", 1)), sums)
+raises InvalidChanges(index=1)
+>>> adds(double, 1, 2)
+raises NotData(kind=('fun', ('num',), ('num',)))
+"""
+
 WRONG_SHEETS = """
 >>> free_names(("plus", x, ("name", "X")))
 raises InvalidTerm(place=(2, 1))
@@ -110,12 +149,12 @@ class SessionTest(unittest.TestCase):
 
     def test_sessions_go_on_from_module_to_module(self):
         names = {}
-        for text in (KINDS, VALUES, WRONG, TERMS, TEXT, BETWEEN, SHEETS, WRONG_SHEETS):
+        for text in (KINDS, VALUES, WRONG, TERMS, TEXT, DERIVING, WRONG_DERIVING, SHEETS, WRONG_SHEETS):
             run_session(self, text, names)
 
     def test_each_line_is_run(self):
-        texts = (KINDS, VALUES, WRONG, TERMS, TEXT, SHEETS, WRONG_SHEETS)
-        self.assertEqual([len(steps_of(text)) for text in texts], [4, 6, 3, 5, 11, 9, 7])
+        texts = (KINDS, VALUES, WRONG, TERMS, TEXT, DERIVING, WRONG_DERIVING, SHEETS, WRONG_SHEETS)
+        self.assertEqual([len(steps_of(text)) for text in texts], [4, 6, 3, 5, 11, 15, 8, 9, 7])
 
 
 if __name__ == "__main__":
