@@ -4,7 +4,10 @@ Each form has rows (FIRST, SYMBOLS): the first row of which FIRST is the next to
 is taken. Symbols are sorts of tokens, forms, and tuples that tell what is made of what was read:
 ("build", HEAD, MANY) puts HEAD ahead of the last so many things, ("value", KIND) is the form of values
 of a kind, ("value read",) that of the kind read last, ("begin",) begins the rows of a bag, ("row",)
-adds one, ("bag",) ends them, ("rows", KIND) and ("more rows", KIND) are rows up to the end.
+adds one, ("bag",) ends them, ("rows", KIND) and ("more rows", KIND) are rows up to the end. With a dict
+of kinds by names, ("told", KINDS) are names and values of their kinds, ("more told", KINDS) what is behind
+one of these, ("known", KINDS) is nothing but a check of the name read last, and ("value named", KINDS) is
+the form of values of its kind.
 """
 
 FORMS = {
@@ -117,3 +120,15 @@ def more_rows_row(kind, sort):
     if sort == ",":
         return ",", ("value", kind), ":", "NUMBER", ("row",), ("more rows", kind)
     return "}", ("bag",)
+
+
+def told_row(kinds):
+    """The symbols of names with values."""
+    return "NAME", ("known", kinds), "=", ("value named", kinds), ("more told", kinds)
+
+
+def more_told_row(kinds, sort):
+    """The symbols behind a name with a value."""
+    if sort == ";":
+        return ";", ("told", kinds)
+    return ()

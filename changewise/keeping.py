@@ -4,7 +4,7 @@ from changewise.cells import named_by
 from changewise.derivatives import derivative_in
 from changewise.kinded import kinded
 from changewise.kinds import is_data_kind
-from changewise.leading import kind_of_changes, led_in, less_in
+from changewise.leading import back_in, kind_of_changes, led_in, less_in
 from changewise.names import marked
 from changewise.reckoning import Reckoner
 from changewise.shapes import free_in
@@ -45,6 +45,50 @@ def _led_cell(cell, changes):
     if cell[1] not in changes:
         return cell
     return cell[:3] + (led_in(cell[2], cell[3], changes[cell[1]]),)
+
+
+def back_of(sheet, edit):
+    """The edit back of an edit."""
+    changes = dict(edit)
+    inputs = [cell for cell in sheet if cell[1] in changes]
+    return tuple([(cell[1], back_in(cell[2], cell[3], changes[cell[1]])) for cell in inputs])
+
+
+class Kept:
+    """A sound sheet that is kept up by edits that are known to be such.
+
+    seen has the names of the cells looked at in the last edit, taken is how many calls it took, and
+    backs has the edits back of those that are not undone.
+    """
+
+    def __init__(self, kinds, sheet):
+        self.kinds = kinds
+        self.cells = sheet
+        self.means = meanings_of(kinds, sheet)
+        self.backs = []
+        self.seen = ()
+        self.taken = 0
+
+    def do(self, edit):
+        """Do an edit; the changes, settled, of the cells of data kinds that are changed."""
+        back = back_of(self.cells, edit)
+        told = self._lead(edit)
+        self.backs.append(back)
+        return told
+
+    def do_back(self):
+        """Do the edit back of the last edit that is not undone."""
+        return self._lead(self.backs.pop())
+
+    def _lead(self, edit):
+        step = Step(self.kinds, self.means, edit)
+        for cell in self.cells:
+            step.take(cell)
+        self.cells = led_sheet(self.cells, edit)
+        self.means = step.now
+        self.seen = tuple(step.seen)
+        self.taken = step.reckoner.taken
+        return step.told()
 
 
 class Step:

@@ -4,10 +4,19 @@ What is still due stands in a list of its own and not in calls within one anothe
 open as many brackets as it likes.
 """
 
-from changewise.errors import InvalidText
-from changewise.forms import FORMS, more_rows_row, rows_row, value_row
+from changewise.errors import InvalidText, UnknownName
+from changewise.forms import FORMS, more_rows_row, more_told_row, rows_row, told_row, value_row
 from changewise.groups import gathered
 from changewise.tokens import line_and_column, tokens_of
+
+
+def read_told(kinds, text):
+    """The pairs (NAME, VALUE) of a text of names, of those of a dict of kinds, with values of their kinds.
+
+    A name that is none of these, or is told again, is refused as UnknownName, if nothing ahead of it is wrong.
+    """
+    made = read(text, ("told", kinds))
+    return [(name, value) for name, value in zip(made[::2], made[1::2])]
 
 
 def read(text, symbol):
@@ -55,8 +64,24 @@ def _row_of(wanted, sort, made):
         return rows_row(wanted[1], sort)
     if wanted[0] == "more rows":
         return more_rows_row(wanted[1], sort)
-    _make(wanted, made)
+    if wanted[0] == "told":
+        return told_row(wanted[1])
+    if wanted[0] == "more told":
+        return more_told_row(wanted[1], sort)
+    if wanted[0] == "value named":
+        return value_row(wanted[1][made[-1]], sort)
+    if wanted[0] == "known":
+        _check_known(wanted[1], made)
+    else:
+        _make(wanted, made)
     return ()
+
+
+def _check_known(kinds, made):
+    """Raise the error of a name, read last, that is none of those of a dict, or was read ahead."""
+    # Names and values stand by turns.
+    if made[-1] not in kinds or made[-1] in made[:-1:2]:
+        raise UnknownName(made[-1])
 
 
 def _form_row(form, sort):

@@ -13,6 +13,8 @@ _LEFT = {"plus": ("fn", "let", "is"), "times": ("fn", "let", "is", "plus")}
 _RIGHT = {"plus": ("fn", "let", "is", "plus"), "times": ("fn", "let", "is", "plus", "times")}
 _CALLED = ("fn", "let", "is", "plus", "times", "minus")
 _NEGATED = ("fn", "let", "is", "plus", "times")
+_FIGURES = 400
+_TOO_LONG = (10 ** 50) ** 8
 
 
 def kind_shown(kind):
@@ -71,7 +73,7 @@ def _kind_pieces(kind):
 
 def _value_pieces(kind, value):
     if kind[0] == "num":
-        return [str(value)]
+        return ["-" if value < 0 else "", *_figures(abs(value))]
     if kind[0] == "unit":
         return ["()"]
     if kind[0] == "pair":
@@ -84,6 +86,18 @@ def _value_pieces(kind, value):
         # The first row alone has nothing ahead of it.
         found.extend([", " if len(found) > 1 else "", ("value", held, kind[1]), f": {many}"])
     return found + ["}"]
+
+
+def _figures(number):
+    """The texts of which the figures of a number that is not below 0 are put together.
+
+    Python makes no text of a number of some thousands of figures, so these are told by 400.
+    """
+    found = []
+    while number >= _TOO_LONG:
+        number, behind = divmod(number, _TOO_LONG)
+        found.append(str(behind).zfill(_FIGURES))
+    return [str(number)] + found[::-1]
 
 
 def _term_pieces(term):

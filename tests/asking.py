@@ -25,7 +25,7 @@ class AskingCase(Case):
             self.assertRaises(last, call, **right)
         for at, name in enumerate(names):
             for thing, error, attributes in wrong[name]:
-                behind = {other: wrong[other][-1][0] for other in names[at + 1:]}
+                behind = {other: wrong[other][-1][0] for other in names[at + 1:] if wrong[other]}
                 for passed in ({**right, name: thing}, {**right, **behind, name: thing}):
                     with self.subTest(call.__name__, name=name, thing=thing):
                         self.assert_told(error, attributes, call, *passed.values())

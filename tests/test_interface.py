@@ -26,6 +26,20 @@ FUNCTIONS = {
     "changewise.meaning": {
         "value_in": ["names", "term"], "calls_in": ["names", "term"], "applied": ["term", "values"],
     },
+    "changewise.changes": {
+        "change_kind": ["kind"], "is_change": ["kind", "thing"], "fits": ["kind", "value", "change"],
+        "led": ["kind", "value", "change"], "less": ["kind", "new", "old"], "nothing": ["kind", "value"],
+        "settled": ["kind", "value", "change"], "are_alike": ["kind", "value", "one", "two"],
+        "changes_nothing": ["kind", "value", "change"], "joined": ["kind", "value", "one", "two"],
+        "back": ["kind", "value", "change"], "led_term": ["kind"], "less_term": ["kind"], "nothing_term": ["kind"],
+    },
+    "changewise.checker": {"accepts": ["claim", "paper"]},
+    "changewise.certificates": {
+        "certify_led": ["kind", "value", "change"], "certify_both": ["kind", "value", "one", "two"],
+        "certify_meaning": ["term", "values", "value"], "certify_unlike": ["term", "other", "values"],
+        "certify_change": ["names", "changes", "written"], "certify_derivative": ["context", "changing", "written"],
+        "certify_no_sum": ["written", "one", "two"], "certify_shown": ["sheet", "edits", "name"],
+    },
     "changewise.deriving": {
         "derivative": ["context", "changing", "written"], "is_steady": ["context", "changing", "written"],
         "adds": ["written", "one", "two"], "kept_change": ["names", "changes", "written"],
@@ -42,8 +56,9 @@ METHODS = {
         "__init__": ["self", "sheet"], "shown": ["self"], "value": ["self", "name"], "edit": ["self", "edit"],
         "undo": ["self"], "sheet": ["self"],
     },
+    ("changewise.desk", "Desk"): {"__init__": ["self"], "say": ["self", "line"], "sheet": ["self"]},
 }
-PROPERTIES = {("changewise.sheets", "Keeper"): ["looked", "calls", "done"]}
+PROPERTIES = {("changewise.sheets", "Keeper"): ["looked", "calls", "done"], ("changewise.desk", "Desk"): []}
 
 
 class InterfaceTest(unittest.TestCase):

@@ -57,6 +57,43 @@ raises InvalidText(line=2, column=3)
 raises InvalidText(line=1, column=5)
 """
 
+CHANGES = r"""
+>>> from changewise.changes import are_alike, back, change_kind, changes_nothing, fits, is_change, joined, led, led_term, less, less_term, nothing, nothing_term, settled
+>>> num, unit = ("num",), ("unit",)
+>>> maybe, bag, some, more, none = ("either", num, unit), ("bag", num), ("left", 3), ("left", ("left", 4)), ("right", ())
+>>> [change_kind(maybe), change_kind(("fun", num, bag)), is_change(maybe, more), is_change(maybe, ("left", 4))]
+[('either', ('either', ('num',), ('unit',)), ('either', ('num',), ('unit',))), ('fun', ('num',), ('fun', ('num',), ('bag', ('num',)))), True, False]
+>>> [led(maybe, some, more), led(maybe, none, more), fits(maybe, none, more), led(maybe, some, ("right", none)), led(bag, ((1, 2),), ((1, -2), (5, 1)))]
+[('left', 7), ('right', ()), False, ('right', ()), ((5, 1),)]
+>>> [less(maybe, ("left", 7), some), less(maybe, none, some), nothing(maybe, some), less(bag, ((1, 2),), ((1, 1), (5, 1)))]
+[('left', ('left', 4)), ('right', ('right', ())), ('left', ('left', 0)), ((1, 1), (5, -1))]
+>>> [settled(maybe, some, ("right", ("left", 7))), are_alike(maybe, some, more, ("right", ("left", 7))), changes_nothing(maybe, some, ("right", some))]
+[('left', ('left', 4)), True, True]
+>>> [joined(maybe, some, ("right", ("left", 1)), more), back(maybe, some, more)]
+[('right', ('left', 5)), ('left', ('left', -4))]
+>>> joined(maybe, some, ("right", none), more)
+raises NotFitting()
+>>> from changewise.meaning import applied
+>>> [applied(led_term(maybe), (some, more)), applied(less_term(maybe), (none, some)), applied(nothing_term(bag), (((1, 2),),))]
+[('left', 7), ('right', ('right', ())), ()]
+>>> step, x = ("fun", num, num), ("name", "x")
+>>> one, two = ("fn", "x", num, ("plus", x, x)), ("fn", "x", num, ("times", x, x))
+>>> to_two = ("call", ("call", less_term(step), two), one)
+>>> [applied(("call", ("call", led_term(step), one), to_two), (5,)), applied(to_two, (5, 1))]
+[25, 26]
+"""
+
+WRONG_CHANGES = r"""
+>>> led(maybe, some, ("left", 4))
+raises InvalidChange(given=('left', 4))
+>>> fits(step, one, two)
+raises InvalidKind(given=('fun', ('num',), ('num',)))
+>>> less(maybe, 3, some)
+raises InvalidValue(given=3)
+>>> back(maybe, none, more)
+raises NotFitting()
+"""
+
 DERIVING = r"""
 >>> from changewise.deriving import adds, derivative, is_steady, kept_change
 >>> from changewise.kinding import kind_of
@@ -108,6 +145,24 @@ raises InvalidValue(given=True)
 raises InvalidPairs(index=1)
 """
 
+DESK = r"""
+>>> from changewise.desk import Desk
+>>> desk = Desk()
+>>> desk.say("sheet input a: num = 3; input b: bag num = {1: 2, 5: 1}; cell by = fn x: num. x * a; cell s = total(by, b); cell t = s + 1;")
+('5 cells',)
+>>> [desk.say("show"), desk.say("set a = 4"), desk.say("look"), desk.say("change b = {5: -1}; a = -4"), desk.say("undo")]
+[('a = 3', 'b = {1: 2, 5: 1}', 'by: num -> num', 's = 21', 't = 22'), ('a = 4', 's = 28', 't = 29'), ('by s t',), ('a = 0', 'b = {1: 2}', 's = 0', 't = 1'), ('a = 4', 'b = {1: 2, 5: 1}', 's = 28', 't = 29')]
+>>> [desk.say("set a = 4"), desk.say("look"), desk.say("hangs s"), desk.say("tell by(t)"), desk.say("tell fn x: num. by"), desk.say("set s = 1"), desk.say("set a = (1, 2)")]
+[('nothing changed',), ('nothing',), ('a b',), ('116',), ('num -> num -> num',), ('no input s',), ('bad text at 1 5',)]
+>>> [desk.say("sheet cell z = 1 + ();"), desk.say("text")[0], desk.say("undo"), desk.say("undo"), desk.say("undo")]
+[('no cell 0',), 'input a: num = 4;', ('nothing changed',), ('a = 3', 's = 21', 't = 22'), ('nothing to undo',)]
+"""
+
+WRONG_DESK = """
+>>> desk.say(None)
+raises InvalidLine(given=None)
+"""
+
 WRONG_DERIVING = """
 >>> kind_of((("X", num),), double)
 raises InvalidContext(index=0)
@@ -145,16 +200,21 @@ raises NothingDone()
 """
 
 
+# In the order of the interface, each going on from the ones ahead.
+SESSIONS = (KINDS, VALUES, WRONG, TERMS, TEXT, CHANGES, WRONG_CHANGES, DERIVING, WRONG_DERIVING, SHEETS, WRONG_SHEETS, DESK,
+            WRONG_DESK)
+
+
 class SessionTest(unittest.TestCase):
 
     def test_sessions_go_on_from_module_to_module(self):
         names = {}
-        for text in (KINDS, VALUES, WRONG, TERMS, TEXT, DERIVING, WRONG_DERIVING, SHEETS, WRONG_SHEETS):
+        for text in SESSIONS:
             run_session(self, text, names)
 
     def test_each_line_is_run(self):
-        texts = (KINDS, VALUES, WRONG, TERMS, TEXT, DERIVING, WRONG_DERIVING, SHEETS, WRONG_SHEETS)
-        self.assertEqual([len(steps_of(text)) for text in texts], [4, 6, 3, 5, 11, 15, 8, 9, 7])
+        lengths = [len(steps_of(text)) for text in SESSIONS]
+        self.assertEqual(lengths, [4, 6, 3, 5, 11, 15, 4, 15, 8, 9, 7, 6, 1])
 
 
 if __name__ == "__main__":
