@@ -13,7 +13,7 @@ _MOST_VALUES = 8
 def kind_and_value(term, values):
     """The kind, and the value, of what is known to be a term when it is called with the values."""
     known = kinded({}, term)
-    kind = _kind_behind(known[-1], values)
+    kind = _kind_behind(known.kind, values)
     check_data(kind)
     reckoner = Reckoner()
     return kind, reckoner.told(reckoner.meaning(known, {}), values)

@@ -8,7 +8,7 @@ from changewise.errors import InvalidValue, NotFitting
 from changewise.keeping import Kept
 from changewise.kinded import kind_in
 from changewise.leading import less_in
-from changewise.soundness import check_name, checked_kinds, sheets_by
+from changewise.soundness import check_name, checked_sheet, sheets_by
 from changewise.terms import check_written
 from changewise.values import is_of
 
@@ -68,12 +68,12 @@ def certify_no_sum(written, one, two):
 
 def certify_shown(sheet, edits, name):
     """That behind the edits a cell shows what it does, by the changes that a keeper tells."""
-    kinds = checked_kinds(sheet)
+    sound = checked_sheet(sheet)
     sheets_by(sheet, edits)
-    check_name(kinds, name)
-    kind = kinds[name]
+    check_name(sound, name)
+    kind = sound.kinds[name]
     check_data(kind)
-    kept, changes = Kept(kinds, sheet), []
+    kept, changes = Kept(sound, sheet), []
     for edit in edits:
         still = less_in(kind, kept.means[name], kept.means[name])
         told = dict(kept.do(edit))

@@ -10,7 +10,7 @@ from changewise.kinded import kind_in, kinded
 from changewise.leading import kind_of_changes, led_in
 from changewise.names import marked
 from changewise.reckoning import Reckoner
-from changewise.soundness import check_name, checked_kinds, sheets_by
+from changewise.soundness import check_name, checked_sheet, sheets_by
 from changewise.terms import check_term, check_written
 from changewise.values import is_of
 
@@ -67,18 +67,18 @@ def _leads(claim, paper):
     check_changes(kinds, means, changes)
     check_written(term)
     known = kinded(kinds, term)
-    check_data(known[-1])
+    check_data(known.kind)
     return _is_leading(known, (kinds, means, dict(changes)), change)
 
 
 def _is_leading(known, told, change):
-    """Whether a thing is a change that leads a kinded term's value to where the changes of its names lead it."""
+    """Whether a thing is a change that leads a term's value to where the changes of its names lead it."""
     kinds, means, changes = told
     behind = {name: led_in(kinds[name], means[name], changes[name]) for name in changes}
     was = Reckoner().meaning(known, means)
-    if not is_fitting(known[-1], was, change):
+    if not is_fitting(known.kind, was, change):
         return False
-    return led_in(known[-1], was, change) == Reckoner().meaning(known, {**means, **behind})
+    return led_in(known.kind, was, change) == Reckoner().meaning(known, {**means, **behind})
 
 
 def _derivative(claim, paper):
@@ -101,10 +101,10 @@ def _no_derivative(claim, paper):
     if tuple([row[:2] for row in names]) != context or tuple([name for name, _ in changes]) != changing:
         return False
     known = kinded(kinds, term)
-    check_data(known[-1])
+    check_data(known.kind)
     change_kinds = {marked(name): kind_of_changes(kinds[name]) for name in changing}
     derived = kinded({**kinds, **change_kinds}, other)
-    if derived[-1] != kind_of_changes(known[-1]):
+    if derived.kind != kind_of_changes(known.kind):
         return False
     change_means = {marked(name): moved for name, moved in changes}
     change = Reckoner().meaning(derived, {**means, **change_means})
@@ -131,18 +131,19 @@ def _both(claim, paper):
 
 def _shown(claim, paper):
     word, sheet, edits, name, value = claim
-    kinds = checked_kinds(sheet)
+    sound = checked_sheet(sheet)
     sheets = sheets_by(sheet, edits)
-    check_name(kinds, name)
-    check_data(kinds[name])
-    if not is_of(kinds[name], value):
+    check_name(sound, name)
+    kind = sound.kinds[name]
+    check_data(kind)
+    if not is_of(kind, value):
         return False
-    is_so = meanings_of(kinds, sheets[-1])[name] == value
+    is_so = meanings_of(sound, sheets[-1])[name] == value
     if _is_nothing(paper):
         return is_so == (word == "shown")
     if word != "shown" or not is_so or not _is_keeping(paper, len(edits)):
         return False
-    return _is_kept(kinds[name], [meanings_of(kinds, each)[name] for each in sheets], paper[1])
+    return _is_kept(kind, [meanings_of(sound, each)[name] for each in sheets], paper[1])
 
 
 def _is_keeping(paper, many):

@@ -1,10 +1,10 @@
 """Derivatives of terms, the changes that they tell, and what hangs on the changes alone."""
 
 from changewise.asked import check_changes, check_changing, check_data, checked_context, checked_names
-from changewise.derivatives import derivative_in
+from changewise.derivatives import derivative_of
 from changewise.errors import InvalidValues, NotData
 from changewise.groups import plus_in, zero_in
-from changewise.kinded import kind_in, kinded
+from changewise.kinded import kinded
 from changewise.kinds import is_group_kind
 from changewise.leading import kind_of_changes
 from changewise.names import marked
@@ -19,8 +19,7 @@ def derivative(context, changing, written):
     kinds = checked_context(context)
     check_changing(kinds, changing)
     check_written(written)
-    kind_in(kinds, written)
-    return derivative_in(kinds, changing, written)
+    return derivative_of(kinded(kinds, written), {name: kinds[name] for name in changing})
 
 
 def is_steady(context, changing, written):
@@ -28,15 +27,14 @@ def is_steady(context, changing, written):
     kinds = checked_context(context)
     check_changing(kinds, changing)
     check_written(written)
-    kind_in(kinds, written)
-    return is_steady_in(kinds, changing, written)
+    return is_steady_in(kinded(kinds, written), {name: kinds[name] for name in changing})
 
 
 def adds(written, one, two):
     """Whether a term from bags adds up, beyond what it tells of the empty bag, at two bags."""
     check_written(written)
     known = kinded({}, written)
-    bags, group = _bags_and_group(known[-1])
+    bags, group = _bags_and_group(known.kind)
     for index, bag in enumerate((one, two)):
         if not is_of(bags, bag):
             raise InvalidValues(index)
@@ -53,12 +51,13 @@ def kept_change(names, changes, written):
     kinds, means = checked_names(names)
     check_changes(kinds, means, changes)
     check_written(written)
-    check_data(kind_in(kinds, written))
-    changing = tuple([name for name, _ in changes])
-    change_kinds = {marked(name): kind_of_changes(kinds[name]) for name in changing}
+    known = kinded(kinds, written)
+    check_data(known.kind)
+    changing = {name: kinds[name] for name, _ in changes}
+    change_kinds = {marked(name): kind_of_changes(changing[name]) for name in changing}
     change_means = {marked(name): change for name, change in changes}
-    known = kinded({**kinds, **change_kinds}, derivative_in(kinds, changing, written))
-    return Reckoner().meaning(known, {**means, **change_means})
+    derived = kinded({**kinds, **change_kinds}, derivative_of(known, changing))
+    return Reckoner().meaning(derived, {**means, **change_means})
 
 
 def _bags_and_group(kind):

@@ -3,12 +3,12 @@
 from changewise.errors import InvalidLine, InvalidSheet, InvalidText, UnknownName, WrongTerm
 from changewise.keeping import Kept
 from changewise.kinded import kinded
-from changewise.kinds import is_data_kind
+from changewise.kinds import is_known_data
 from changewise.leading import fits_in, kind_of_changes, less_in
 from changewise.reading import read_told
 from changewise.reckoning import Reckoner
 from changewise.showing import kind_shown, value_shown
-from changewise.soundness import checked_kinds, inputs_behind
+from changewise.soundness import checked_sheet, inputs_behind
 from changewise.terms import is_written
 from changewise.text import read_sheet, read_term, show_sheet
 
@@ -47,13 +47,13 @@ class Desk:
         """Keep up the sheet of a text from now on."""
         try:
             sheet = read_sheet(text)
-            kinds = checked_kinds(sheet)
+            sound = checked_sheet(sheet)
         except InvalidText as error:
             return _bad_text(error.line, error.column)
         except InvalidSheet as wrong:
             at = _MOST_CELLS if wrong.index is None else wrong.index
             return (f"no cell {at}",)
-        self._kept = Kept(kinds, sheet)
+        self._kept = Kept(sound, sheet)
         return (f"{len(sheet)} cells",)
 
 
@@ -62,7 +62,7 @@ def _bad_text(line, column):
 
 
 def _cell_shown(kept, name):
-    return f"{name} = {value_shown(kept.kinds[name], kept.means[name])}"
+    return f"{name} = {value_shown(kept.sound.kinds[name], kept.means[name])}"
 
 
 def _listed(names):
@@ -103,7 +103,7 @@ def _edited(kept, kinds, rest, change_of):
         return (f"no input {unknown.given}",)
     changes = {name: change_of(name, thing) for name, thing in told}
     for name in changes:
-        if not fits_in(kept.kinds[name], kept.means[name], changes[name]):
+        if not fits_in(kept.sound.kinds[name], kept.means[name], changes[name]):
             return (f"does not fit {name}",)
     edit = tuple([(cell[1], changes[cell[1]]) for cell in kept.cells if cell[1] in changes])
     return _changed(kept, kept.do(edit))
@@ -116,10 +116,10 @@ def _undo(kept, rest):
 
 
 def _show(kept, rest):
-    found = []
-    for name in kept.kinds:
-        kind = kept.kinds[name]
-        found.append(_cell_shown(kept, name) if is_data_kind(kind) else f"{name}: {kind_shown(kind)}")
+    kinds, found = kept.sound.kinds, []
+    for name in kinds:
+        kind = kinds[name]
+        found.append(_cell_shown(kept, name) if is_known_data(kind) else f"{name}: {kind_shown(kind)}")
     return tuple(found)
 
 
@@ -134,9 +134,9 @@ def _look(kept, rest):
 
 
 def _hangs(kept, rest):
-    if rest not in kept.kinds:
+    if rest not in kept.sound.kinds:
         return (f"no cell {rest}",)
-    return _listed(inputs_behind(kept.cells, rest))
+    return _listed(inputs_behind(kept.sound, rest))
 
 
 def _tell(kept, rest):
@@ -147,11 +147,11 @@ def _tell(kept, rest):
     if not is_written(term):
         return ("no term",)
     try:
-        known = kinded(kept.kinds, term)
+        known = kinded(kept.sound.kinds, term)
     except WrongTerm:
         return ("no kind",)
-    kind = known[-1]
-    if not is_data_kind(kind):
+    kind = known.kind
+    if not is_known_data(kind):
         return (kind_shown(kind),)
     return (value_shown(kind, Reckoner().meaning(known, kept.means)),)
 

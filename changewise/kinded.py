@@ -1,158 +1,188 @@
-"""Kinds of terms: each part of a term gets its kind put behind its elements."""
+"""Kinds of terms: what each part of a term is, found part by part."""
 
 from changewise.errors import WrongTerm
-from changewise.kinds import TRUTH, is_group_kind, is_plain_kind
-from changewise.shapes import inner_terms
+from changewise.kinds import TRUTH, is_known_group, is_known_plain
 
 _NUM = ("num",)
+_UNIT = ("unit",)
+
+
+class Part:
+    """A part of a term: its kind, a dict of the names that stand free in it, and the parts among its elements."""
+
+    def __init__(self, term, kind, names, parts):
+        self.term = term
+        self.kind = kind
+        self.names = names
+        self.parts = parts
 
 
 def kinded(context, term):
-    """The term with the kind of each part behind that part's elements, its own one last of all.
-
-    The context is a dict of kinds. What has no kind is told as WrongTerm.
-    """
+    """The Part that a term is, the context being a dict of kinds; what has no kind is told as WrongTerm."""
     return _kinded(context, term, ())
 
 
 def kind_in(context, term):
     """The kind of a term in a dict of kinds."""
-    return kinded(context, term)[-1]
+    return _kinded(context, term, ()).kind
+
+
+def without(names, name):
+    """The dict of names less one of them."""
+    if name not in names:
+        return names
+    return {other: True for other in names if other != name}
 
 
 def _kinded(context, term, path):
-    told, kinds = list(term), {}
-    for index, part, name in inner_terms(term):
-        inner = context
-        if name is not None:
-            inner = {**context, name: _bound_kind(term, index, kinds, path)}
-        told[index] = _kinded(inner, part, path + (index,))
-        kinds[index] = told[index][-1]
-    if term[0] == "name":
-        _need(term[1] in context, path)
-        kind = context[term[1]]
-    else:
-        rule = _RULES[term[0]]
-        kind = rule(term, kinds, path)
-    return tuple(told) + (kind,)
+    rule = _RULES[term[0]]
+    return rule(context, term, path)
 
 
-def _bound_kind(term, index, kinds, path):
-    """The kind of the name that is bound in the part at an index, by those of the parts ahead."""
-    if term[0] == "fn":
-        return term[2]
-    if term[0] == "let":
-        return kinds[2]
-    _need(kinds[1][0] == "either", path + (1,))
-    return kinds[1][1] if index == 3 else kinds[1][2]
-
-
-def _need(holds, path):
+def _need(holds, path, index):
+    """Raise the error of a part, by its index in what a path leads to, if something does not hold."""
     if not holds:
+        raise WrongTerm(path + (index,))
+
+
+def _joined(one, two):
+    """The dict of the names of both."""
+    if not two:
+        return one
+    if not one:
+        return two
+    return {**one, **two}
+
+
+def _name(context, term, path):
+    if term[1] not in context:
         raise WrongTerm(path)
+    return Part(term, context[term[1]], {term[1]: True}, ())
 
 
-def _fn(term, kinds, path):
-    return ("fun", term[2], kinds[3])
+def _fn(context, term, path):
+    body = _kinded({**context, term[1]: term[2]}, term[3], path + (3,))
+    return Part(term, ("fun", term[2], body.kind), without(body.names, term[1]), (body,))
 
 
-def _call(term, kinds, path):
-    _need(kinds[1][0] == "fun", path + (1,))
-    _need(kinds[1][1] == kinds[2], path + (2,))
-    return kinds[1][2]
+def _call(context, term, path):
+    asked, told = _kinded(context, term[1], path + (1,)), _kinded(context, term[2], path + (2,))
+    _need(asked.kind[0] == "fun", path, 1)
+    _need(asked.kind[1] == told.kind, path, 2)
+    return Part(term, asked.kind[2], _joined(asked.names, told.names), (asked, told))
 
 
-def _let(term, kinds, path):
-    return kinds[3]
+def _let(context, term, path):
+    told = _kinded(context, term[2], path + (2,))
+    body = _kinded({**context, term[1]: told.kind}, term[3], path + (3,))
+    return Part(term, body.kind, _joined(told.names, without(body.names, term[1])), (told, body))
 
 
-def _unit(term, kinds, path):
-    return ("unit",)
+def _unit(context, term, path):
+    return Part(term, _UNIT, {}, ())
 
 
-def _number(term, kinds, path):
-    return _NUM
+def _number(context, term, path):
+    return Part(term, _NUM, {}, ())
 
 
-def _plus(term, kinds, path):
-    _need(is_group_kind(kinds[1]), path + (1,))
-    _need(kinds[2] == kinds[1], path + (2,))
-    return kinds[1]
+def _zero(context, term, path):
+    return Part(term, term[1], {}, ())
 
 
-def _minus(term, kinds, path):
-    _need(is_group_kind(kinds[1]), path + (1,))
-    return kinds[1]
+def _plus(context, term, path):
+    one, two = _kinded(context, term[1], path + (1,)), _kinded(context, term[2], path + (2,))
+    _need(is_known_group(one.kind), path, 1)
+    _need(two.kind == one.kind, path, 2)
+    return Part(term, one.kind, _joined(one.names, two.names), (one, two))
 
 
-def _times(term, kinds, path):
-    _need(kinds[1] == _NUM, path + (1,))
-    _need(kinds[2] == _NUM, path + (2,))
-    return _NUM
+def _minus(context, term, path):
+    part = _kinded(context, term[1], path + (1,))
+    _need(is_known_group(part.kind), path, 1)
+    return Part(term, part.kind, part.names, (part,))
 
 
-def _zero(term, kinds, path):
-    return term[1]
+def _times(context, term, path):
+    one, two = _kinded(context, term[1], path + (1,)), _kinded(context, term[2], path + (2,))
+    _need(one.kind == _NUM, path, 1)
+    _need(two.kind == _NUM, path, 2)
+    return Part(term, _NUM, _joined(one.names, two.names), (one, two))
 
 
-def _pair(term, kinds, path):
-    return ("pair", kinds[1], kinds[2])
+def _pair(context, term, path):
+    one, two = _kinded(context, term[1], path + (1,)), _kinded(context, term[2], path + (2,))
+    return Part(term, ("pair", one.kind, two.kind), _joined(one.names, two.names), (one, two))
 
 
-def _first(term, kinds, path):
-    _need(kinds[1][0] == "pair", path + (1,))
-    return kinds[1][1]
+def _first(context, term, path):
+    part = _kinded(context, term[1], path + (1,))
+    _need(part.kind[0] == "pair", path, 1)
+    return Part(term, part.kind[1], part.names, (part,))
 
 
-def _second(term, kinds, path):
-    _need(kinds[1][0] == "pair", path + (1,))
-    return kinds[1][2]
+def _second(context, term, path):
+    part = _kinded(context, term[1], path + (1,))
+    _need(part.kind[0] == "pair", path, 1)
+    return Part(term, part.kind[2], part.names, (part,))
 
 
-def _left(term, kinds, path):
-    return ("either", kinds[1], term[2])
+def _left(context, term, path):
+    part = _kinded(context, term[1], path + (1,))
+    return Part(term, ("either", part.kind, term[2]), part.names, (part,))
 
 
-def _right(term, kinds, path):
-    return ("either", term[1], kinds[2])
+def _right(context, term, path):
+    part = _kinded(context, term[2], path + (2,))
+    return Part(term, ("either", term[1], part.kind), part.names, (part,))
 
 
-def _case(term, kinds, path):
-    _need(kinds[5] == kinds[3], path + (5,))
-    return kinds[3]
+def _case(context, term, path):
+    told = _kinded(context, term[1], path + (1,))
+    _need(told.kind[0] == "either", path, 1)
+    left = _kinded({**context, term[2]: told.kind[1]}, term[3], path + (3,))
+    right = _kinded({**context, term[4]: told.kind[2]}, term[5], path + (5,))
+    _need(right.kind == left.kind, path, 5)
+    names = _joined(without(left.names, term[2]), without(right.names, term[4]))
+    return Part(term, left.kind, _joined(told.names, names), (told, left, right))
 
 
-def _is(term, kinds, path):
-    _need(kinds[2] == _NUM, path + (2,))
-    _need(kinds[3] == _NUM, path + (3,))
-    return TRUTH
+def _is(context, term, path):
+    one, two = _kinded(context, term[2], path + (2,)), _kinded(context, term[3], path + (3,))
+    _need(one.kind == _NUM, path, 2)
+    _need(two.kind == _NUM, path, 3)
+    return Part(term, TRUTH, _joined(one.names, two.names), (one, two))
 
 
-def _one(term, kinds, path):
-    _need(is_plain_kind(kinds[1]), path + (1,))
-    return ("bag", kinds[1])
+def _one_of(context, term, path):
+    part = _kinded(context, term[1], path + (1,))
+    _need(is_known_plain(part.kind), path, 1)
+    return Part(term, ("bag", part.kind), part.names, (part,))
 
 
-def _total(term, kinds, path):
-    asked = kinds[1]
-    _need(asked[0] == "fun" and is_plain_kind(asked[1]) and is_group_kind(asked[2]), path + (1,))
-    _need(kinds[2] == ("bag", asked[1]), path + (2,))
-    return asked[2]
+def _total(context, term, path):
+    asked, bag = _kinded(context, term[1], path + (1,)), _kinded(context, term[2], path + (2,))
+    kind = asked.kind
+    _need(kind[0] == "fun" and is_known_plain(kind[1]) and is_known_group(kind[2]), path, 1)
+    _need(bag.kind == ("bag", kind[1]), path, 2)
+    return Part(term, kind[2], _joined(asked.names, bag.names), (asked, bag))
 
 
-def _count(term, kinds, path):
-    _need(kinds[1][0] == "bag", path + (1,))
-    _need(kinds[2] == kinds[1][1], path + (2,))
-    return _NUM
+def _count(context, term, path):
+    bag, held = _kinded(context, term[1], path + (1,)), _kinded(context, term[2], path + (2,))
+    _need(bag.kind[0] == "bag", path, 1)
+    _need(held.kind == bag.kind[1], path, 2)
+    return Part(term, _NUM, _joined(bag.names, held.names), (bag, held))
 
 
-def _support(term, kinds, path):
-    _need(kinds[1][0] == "bag", path + (1,))
-    return kinds[1]
+def _support(context, term, path):
+    bag = _kinded(context, term[1], path + (1,))
+    _need(bag.kind[0] == "bag", path, 1)
+    return Part(term, bag.kind, bag.names, (bag,))
 
 
 _RULES = {
-    "fn": _fn, "call": _call, "let": _let, "unit": _unit, "number": _number, "plus": _plus, "minus": _minus,
-    "times": _times, "zero": _zero, "pair": _pair, "first": _first, "second": _second, "left": _left,
-    "right": _right, "case": _case, "is": _is, "one": _one, "total": _total, "count": _count, "support": _support,
+    "name": _name, "fn": _fn, "call": _call, "let": _let, "unit": _unit, "number": _number, "plus": _plus,
+    "minus": _minus, "times": _times, "zero": _zero, "pair": _pair, "first": _first, "second": _second, "left": _left,
+    "right": _right, "case": _case, "is": _is, "one": _one_of, "total": _total, "count": _count, "support": _support,
 }

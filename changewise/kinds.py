@@ -17,17 +17,17 @@ def is_kind(value):
 
 def is_plain_kind(value):
     """Whether a value, whatever it is, is a plain kind."""
-    return is_kind(value) and _is_made_of(value, _PLAIN_WORDS)
+    return is_kind(value) and is_known_plain(value)
 
 
 def is_data_kind(value):
     """Whether a value, whatever it is, is a data kind."""
-    return is_kind(value) and _is_made_of(value, _DATA_WORDS)
+    return is_kind(value) and is_known_data(value)
 
 
 def is_group_kind(value):
     """Whether a value, whatever it is, is a group kind."""
-    return is_kind(value) and _is_group(value)
+    return is_kind(value) and is_known_group(value)
 
 
 def is_bag_kind(value):
@@ -72,9 +72,20 @@ def _is_made_of(kind, words):
     return True
 
 
-def _is_group(kind):
+def is_known_plain(kind):
+    """Whether what is known to be a kind is plain."""
+    return _is_made_of(kind, _PLAIN_WORDS)
+
+
+def is_known_data(kind):
+    """Whether what is known to be a kind is a data kind."""
+    return _is_made_of(kind, _DATA_WORDS)
+
+
+def is_known_group(kind):
+    """Whether what is known to be a kind is a group kind."""
     if kind[0] == "pair":
-        return _is_group(kind[1]) and _is_group(kind[2])
+        return is_known_group(kind[1]) and is_known_group(kind[2])
     return kind[0] in ("num", "bag")
 
 

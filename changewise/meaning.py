@@ -31,7 +31,7 @@ def _reckoned(names, term):
     kinds, means = checked_names(names)
     check_term(term)
     known = kinded(kinds, term)
-    check_data(known[-1])
+    check_data(known.kind)
     reckoner = Reckoner()
     value = reckoner.meaning(known, means)
     return value, reckoner.taken

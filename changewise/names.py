@@ -1,9 +1,11 @@
 """Words, names and marked names: what is one, sign by sign."""
 
-WORDS = (
-    "fn", "let", "in", "case", "unit", "num", "bag", "zero", "first", "second", "left", "right", "one", "total",
-    "count", "support", "input", "cell",
-)
+# A dict, since it is asked of each name.
+WORDS = {
+    "fn": True, "let": True, "in": True, "case": True, "unit": True, "num": True, "bag": True, "zero": True,
+    "first": True, "second": True, "left": True, "right": True, "one": True, "total": True, "count": True,
+    "support": True, "input": True, "cell": True,
+}
 MARK = "'"
 LONGEST_NAME = 8
 LONGEST_MARK = 8
@@ -21,10 +23,9 @@ def is_figure(sign):
 
 def is_plain_name(value):
     """Whether a value, whatever it is, is a name, not a marked one."""
-    if not isinstance(value, str) or not 1 <= len(value) <= LONGEST_NAME:
+    if not isinstance(value, str) or not 1 <= len(value) <= LONGEST_NAME or not is_letter(value[0]):
         return False
-    others = [sign for sign in value if not is_letter(sign) and not is_figure(sign)]
-    return is_letter(value[0]) and others == [] and value not in WORDS
+    return value.isascii() and value.isalnum() and value.islower() and value not in WORDS
 
 
 def is_any_name(value):

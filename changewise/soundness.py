@@ -1,32 +1,28 @@
-"""Sound sheets: the kinds of their cells, their edits, and on which inputs a cell hangs."""
+"""Sound sheets: what is known of their cells, their edits, and on which inputs a cell hangs."""
 
 from changewise.asked import is_fitting
-from changewise.cells import check_row, is_cell, named_by
+from changewise.cells import check_row, is_cell
 from changewise.errors import InvalidEdit, InvalidEdits, InvalidSheet, UnknownName, WrongTerm
-from changewise.keeping import led_sheet
-from changewise.kinded import kind_in
+from changewise.keeping import Sound, led_sheet
+from changewise.kinded import kinded
 
 _MOST_EDITS = 40
 
 
-def checked_kinds(sheet):
-    """The dict of the kinds of a sound sheet's cells, in their order."""
+def checked_sheet(sheet):
+    """What is known of a sound sheet."""
     check_row(sheet)
-    kinds = {}
+    sound = Sound()
     for index, cell in enumerate(sheet):
-        kind = None
-        if is_cell(cell) and cell[1] not in kinds:
-            kind = _kind_of_cell(kinds, cell)
-        if kind is None:
+        if not is_cell(cell) or cell[1] in sound.kinds or not _is_taken(sound, cell):
             raise InvalidSheet(index)
-        kinds[cell[1]] = kind
-    return kinds
+    return sound
 
 
-def check_name(kinds, name):
+def check_name(sound, name):
     """Raise the error of what is no name of a cell."""
     # What is no text may have no place in a dict, so it is not looked up.
-    if not isinstance(name, str) or name not in kinds:
+    if not isinstance(name, str) or name not in sound.kinds:
         raise UnknownName(name)
 
 
@@ -63,26 +59,29 @@ def is_edit_of(sheet, thing):
     return True
 
 
-def inputs_behind(sheet, name):
+def inputs_behind(sound, name):
     """The names of the inputs on which a cell hangs, in order."""
     hanging = {}
-    for cell in sheet:
-        found = {cell[1]: True} if cell[0] == "input" else {}
-        for other in named_by(cell):
-            for ahead in hanging[other]:
-                found[ahead] = True
-        hanging[cell[1]] = found
-    return tuple([cell[1] for cell in sheet if cell[1] in hanging[name]])
+    for cell in sound.kinds:
+        found = {} if cell in sound.parts else {cell: True}
+        if cell in sound.parts:
+            for other in sound.parts[cell].names:
+                found = {**found, **hanging[other]}
+        hanging[cell] = found
+    return tuple([cell for cell in sound.kinds if cell in hanging[name]])
 
 
-def _kind_of_cell(kinds, cell):
-    """The kind of a cell behind those of a dict of kinds, None if it has none."""
+def _is_taken(sound, cell):
+    """Whether a cell has a kind behind those known; it is known then, too."""
     if cell[0] == "input":
-        return cell[2]
+        sound.kinds[cell[1]] = cell[2]
+        return True
     try:
-        return kind_in(kinds, cell[2])
+        part = kinded(sound.kinds, cell[2])
     except WrongTerm:
-        return None
+        return False
+    sound.kinds[cell[1]], sound.parts[cell[1]] = part.kind, part
+    return True
 
 
 def _input_at(cells, pair):

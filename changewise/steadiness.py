@@ -1,43 +1,42 @@
 """Which terms are steady: the change of what they mean hangs on the changes alone."""
 
-from changewise.kinded import kind_in
-from changewise.kinds import is_group_kind
-from changewise.shapes import free_in
+from changewise.kinds import is_known_group
 
 # What is done part by part leads a sum of changes to the sum of what each is led to.
 _BY_PARTS = ("plus", "minus", "pair", "first", "second")
 
 
-def is_steady_in(kinds, changing, term):
-    """Whether a term that has a kind in a dict of kinds is steady in names that may change."""
-    found = _changed(changing, term)
+def is_steady_in(part, changing):
+    """Whether the term that a Part is is steady; a dict has the kinds of the names that may change."""
+    found = _changed(part, changing)
     if found == []:
         return True
-    if [name for name in found if not is_group_kind(kinds[name])] != []:
+    if [name for name in found if not is_known_group(changing[name])] != []:
         return False
-    word = term[0]
+    word = part.term[0]
     if word == "let":
-        return _is_steady_let(kinds, changing, term)
+        return _is_steady_let(part, changing)
     if word == "total":
-        return _changed(changing, term[1]) == [] and is_steady_in(kinds, changing, term[2])
+        asked, bag = part.parts
+        return _changed(asked, changing) == [] and is_steady_in(bag, changing)
     if word == "times":
-        moved = [part for part in term[1:] if _changed(changing, part) != []]
-        return len(moved) == 1 and is_steady_in(kinds, changing, moved[0])
+        moved = [inner for inner in part.parts if _changed(inner, changing) != []]
+        return len(moved) == 1 and is_steady_in(moved[0], changing)
     if word in _BY_PARTS:
-        unsteady = [part for part in term[1:] if not is_steady_in(kinds, changing, part)]
+        unsteady = [inner for inner in part.parts if not is_steady_in(inner, changing)]
         return unsteady == []
     return word == "name"
 
 
-def _is_steady_let(kinds, changing, term):
-    _, name, told, body = term
-    inner = [other for other in changing if other != name]
-    if _changed(changing, told) != []:
-        inner.append(name)
-    within = {**kinds, name: kind_in(kinds, told)}
-    return is_steady_in(kinds, changing, told) and is_steady_in(within, inner, body)
+def _is_steady_let(part, changing):
+    told, body = part.parts
+    name = part.term[1]
+    within = {other: changing[other] for other in changing if other != name}
+    if _changed(told, changing) != []:
+        within[name] = told.kind
+    return is_steady_in(told, changing) and is_steady_in(body, within)
 
 
-def _changed(changing, term):
-    """The names that stand free in a term and may change."""
-    return [name for name in free_in(term) if name in changing]
+def _changed(part, changing):
+    """The names that stand free in a part and may change."""
+    return [name for name in part.names if name in changing]

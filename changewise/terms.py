@@ -3,7 +3,7 @@
 from changewise.errors import InvalidTerm
 from changewise.kinds import depth_of_kind, is_group_kind, is_kind
 from changewise.names import is_any_name, is_plain_name
-from changewise.shapes import SHAPES, SIGNS, all_parts, free_in, inner_terms, is_formed
+from changewise.shapes import SIGNS, all_parts, free_in, roles_in, term_places
 from changewise.values import is_whole
 
 _DEEPEST = 100
@@ -39,13 +39,11 @@ def parts_of(term):
 def depth_of(term):
     """How deep a term is."""
     check_term(term)
-    deepest = 0
-    todo = [(term, 1)]
-    while todo:
-        part, depth = todo.pop()
-        deepest = max(deepest, depth)
-        todo.extend([(inside, depth + 1) for _, inside, _ in inner_terms(part)])
-    return deepest
+    depth, level = 0, [term]
+    while level:
+        depth += 1
+        level = [part[index] for part in level for index in term_places(part)]
+    return depth
 
 
 def free_names(term):
@@ -83,23 +81,44 @@ def check_written(written):
 
 def _inner_at(term, index):
     # True is equal to 1, but no index.
-    if not is_whole(index):
-        return None
-    for at, inside, _ in inner_terms(term):
-        if at == index:
-            return inside
+    if is_whole(index) and index in term_places(term):
+        return term[index]
     return None
 
 
 def _place_in_term(value):
+    if _parts_of_right(value, _DEEPEST, _DEEPEST_KIND, is_any_name) is not None:
+        return None
     return _wrong_place(value, _DEEPEST, _DEEPEST_KIND, is_any_name)
 
 
 def _place_in_written(value):
-    place = _wrong_place(value, _DEEPEST_WRITTEN, _DEEPEST_KIND_WRITTEN, is_plain_name)
-    if place is None and len(all_parts(value)) > _MOST_PARTS_WRITTEN:
-        return ()
-    return place
+    many = _parts_of_right(value, _DEEPEST_WRITTEN, _DEEPEST_KIND_WRITTEN, is_plain_name)
+    if many is None:
+        return _wrong_place(value, _DEEPEST_WRITTEN, _DEEPEST_KIND_WRITTEN, is_plain_name)
+    return None if many <= _MOST_PARTS_WRITTEN else ()
+
+
+def _parts_of_right(value, deepest, deepest_kind, is_right_name):
+    """How many parts a value has that is a term as asked for; None for another one.
+
+    Most of what is asked for is right, so where it is wrong is looked for only if it is.
+    """
+    level, many = [value], 0
+    for _ in range(deepest):
+        below = []
+        for thing in level:
+            roles = roles_in(thing)
+            if roles is None:
+                return None
+            for role, inner in zip(roles, thing[1:]):
+                if role == "term":
+                    below.append(inner)
+                elif not _is_right(role, inner, deepest_kind, is_right_name):
+                    return None
+        many += len(level)
+        level = below
+    return many if level == [] else None
 
 
 def _wrong_place(value, deepest, deepest_kind, is_right_name):
@@ -107,21 +126,21 @@ def _wrong_place(value, deepest, deepest_kind, is_right_name):
     todo = [("term", value, ())]
     while todo:
         role, thing, path = todo.pop()
-        if role == "term":
-            if len(path) >= deepest or not is_formed(thing):
+        if role != "term":
+            if not _is_right(role, thing, deepest_kind, is_right_name):
                 return path
-            roles = list(enumerate(SHAPES[thing[0]], 1))
-            todo.extend([(inner, thing[index], path + (index,)) for index, inner in roles[::-1]])
-        elif role == "name":
-            if not is_right_name(thing):
-                return path
-        elif not _is_right(role, thing, deepest_kind):
+        elif len(path) >= deepest or roles_in(thing) is None:
             return path
+        else:
+            roles = list(enumerate(roles_in(thing), 1))
+            todo.extend([(inner, thing[index], path + (index,)) for index, inner in roles[::-1]])
     return None
 
 
-def _is_right(role, thing, deepest_kind):
-    """Whether an element that is neither a term nor a name is what it should be."""
+def _is_right(role, thing, deepest_kind, is_right_name):
+    """Whether an element that is no term is what it should be."""
+    if role == "name":
+        return is_right_name(thing)
     if role == "number":
         return is_whole(thing) and -_TOO_GREAT < thing < _TOO_GREAT
     if role == "sign":

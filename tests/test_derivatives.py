@@ -2,7 +2,7 @@
 
 import unittest
 
-from changewise.derivatives import derivative_in
+from changewise.derivatives import derivative_of
 from changewise.kinded import kind_in, kinded
 from changewise.kinds import is_data_kind
 from changewise.leading import fits_in, kind_of_changes
@@ -17,6 +17,10 @@ from tests.drawing import Drawer
 NUM, UNIT = ("num",), ("unit",)
 KINDS = {"n": NUM, "m": NUM, "b": ("bag", NUM), "e": ("either", NUM, UNIT),
         "p": ("pair", ("either", UNIT, UNIT), ("bag", ("either", NUM, UNIT))), "u": UNIT}
+
+
+def derivative_in(kinds, changing, term):
+    return derivative_of(kinded(kinds, term), {name: kinds[name] for name in changing})
 
 
 class DerivativesTest(unittest.TestCase):

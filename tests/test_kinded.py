@@ -4,6 +4,7 @@ import unittest
 
 from changewise.errors import WrongTerm
 from changewise.kinded import kind_in, kinded
+from changewise.terms import part_at
 from changewise.text import read_kind, read_term
 from tests import oracle
 from tests.drawing import Drawer
@@ -102,10 +103,22 @@ class KindedTest(unittest.TestCase):
 
     def test_each_part_gets_its_kind(self):
         num, unit = ("num",), ("unit",)
-        self.assertEqual(
-            kinded({"n": num}, read_term("case left(n, unit) {x. x; y. 1}")),
-            ("case", ("left", ("name", "n", num), unit, ("either", num, unit)), "x", ("name", "x", num), "y",
-                ("number", 1, num), num))
+        part = kinded({"n": num}, read_term("case left(n, unit) {x. x; y. 1}"))
+        told, left, right = part.parts
+        self.assertEqual([each.kind for each in (part, told, *told.parts, left, right)],
+                         [num, ("either", num, unit), num, num, num])
+
+    def test_each_part_is_told_with_its_names(self):
+        context = tuple((name, kind) for name, kind in KINDS.items() if "'" not in name)
+        for seed in range(200):
+            drawer = Drawer(seed)
+            todo = [(kinded(dict(context), drawer.term(context, drawer.kind(3), 5)), ())]
+            while todo:
+                part, path = todo.pop()
+                self.assertEqual(set(part.names), oracle.names_in(part.term))
+                places = [index for index in range(1, len(part.term)) if part_at(part.term, (index,)) is not None]
+                self.assertEqual([each.term for each in part.parts], [part.term[index] for index in places])
+                todo += [(each, path) for each in part.parts]
 
     def test_the_context_is_as_it_was(self):
         context = {"n": ("num",)}

@@ -88,11 +88,11 @@ class ReckoningTest(unittest.TestCase):
                 ("pair", (), 6))
 
     def test_no_deep_calls_are_needed(self):
-        # The kinds of what is so deep would be told by deep calls; the meaning is not.
-        inner = ("name", "n", NUM)
+        # No term is so deep, but calls of functions that call others may be.
+        code = [("name", "x")]
         for _ in range(5000):
-            inner = ("plus", inner, ("number", 1, NUM), NUM)
-        self.assertEqual(Reckoner().meaning(inner, MEANS), 5002)
+            code = [("name", "x"), ("let", "x", code), ("made", 1), ("two", lambda told, one, two: one + two, None)]
+        self.assertEqual(Reckoner().made_by(code, {"x": 2}), 5002)
 
 
 if __name__ == "__main__":
