@@ -1,7 +1,7 @@
 """Cells, and sheets of them: what is a cell, and in which row cells are a sheet."""
 
 from changewise.errors import InvalidSheet
-from changewise.kinds import depth_of_kind, is_data_kind
+from changewise.kinds import is_data_kind, known_depth
 from changewise.names import is_plain_name
 from changewise.shapes import free_in
 from changewise.terms import is_written
@@ -47,7 +47,7 @@ def check_sheet(sheet):
 
 def _is_told(kind, value):
     """Whether an input may have the kind, and the value is of it."""
-    return is_data_kind(kind) and depth_of_kind(kind) <= _DEEPEST_KIND and is_of(kind, value)
+    return is_data_kind(kind) and known_depth(kind) <= _DEEPEST_KIND and is_of(kind, value)
 
 
 def _is_named_ahead(cell, ahead):

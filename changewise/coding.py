@@ -2,31 +2,35 @@
 
 A deed works on what the ones ahead of it have made: ("name", NAME) and ("made", VALUE) make one thing more,
 ("one", RULE, TOLD) and ("two", RULE, TOLD) put what a rule tells in the place of the last one or two, by
-what is told beside them; ("fn", NAME, CODE) makes a function, and ("call",), ("let", NAME, CODE),
-("case", NAME, CODE, NAME, CODE) and ("total", KIND) go on with other codes.
+what is told beside them; ("fn", NAME, PART) makes a function, and ("call",), ("let", NAME, PART),
+("case", NAME, PART, NAME, PART) and ("total", KIND) go on with the codes of other parts.
 """
 
 from changewise.groups import count_in, plus_in, support_in, times_in, zero_in
 
 
 def code_of(part):
-    """The code of a part."""
-    code = []
-    _add(code, part)
-    return code
+    """The code of a part.
+
+    It is made when it is first asked for: of many a case just one side is, and of a function often none.
+    """
+    if part.code is None:
+        part.code = []
+        _add(part.code, part)
+    return part.code
 
 
 def _add(code, part):
     """Put the deeds of a part behind those of a code."""
     term, word = part.term, part.term[0]
     if word == "fn":
-        code.append(("fn", term[1], code_of(part.parts[0])))
+        code.append(("fn", term[1], part.parts[0]))
     elif word == "let":
         _add(code, part.parts[0])
-        code.append(("let", term[1], code_of(part.parts[1])))
+        code.append(("let", term[1], part.parts[1]))
     elif word == "case":
         _add(code, part.parts[0])
-        code.append(("case", term[2], code_of(part.parts[1]), term[4], code_of(part.parts[2])))
+        code.append(("case", term[2], part.parts[1], term[4], part.parts[2]))
     else:
         for inner in part.parts:
             _add(code, inner)
@@ -49,8 +53,8 @@ def _deed(part, term, word):
         return "total", part.kind
     if word == "is":
         return "two", _compared, term[1]
-    rule = _RULES[word]
-    return "one" if len(part.parts) == 1 else "two", rule, part.kind
+    many = "one" if len(part.parts) == 1 else "two"
+    return many, _RULES[word], part.kind
 
 
 def _minus(kind, one):

@@ -1,6 +1,5 @@
 """What the cells of sheets that are known to be sound mean, from nothing and kept up."""
 
-from changewise.coding import code_of
 from changewise.derivatives import derivative_of
 from changewise.kinded import kinded
 from changewise.kinds import is_known_data
@@ -102,19 +101,19 @@ class Kept:
 
 
 class Changers:
-    """The codes of the derivatives of a sound sheet's TERMs; each is made once, since edits ask for the same again."""
+    """The derivatives of a sound sheet's TERMs, as Parts; each is made once, since edits ask for the same again."""
 
     def __init__(self, sound):
         self.sound = sound
         self.made = {}
 
     def changer_of(self, name, changing):
-        """The code of the derivative of a cell's TERM in names that may change."""
+        """The derivative of a cell's TERM in names that may change."""
         if (name, changing) not in self.made:
             kinds = self.sound.kinds
             derivative = derivative_of(self.sound.parts[name], {other: kinds[other] for other in changing})
             changes = {marked(other): kind_of_changes(kinds[other]) for other in changing}
-            self.made[(name, changing)] = code_of(kinded({**kinds, **changes}, derivative))
+            self.made[(name, changing)] = kinded({**kinds, **changes}, derivative)
         return self.made[(name, changing)]
 
 
@@ -173,4 +172,4 @@ class Step:
         scope = _scope(part, self.were)
         for other in changing:
             scope[marked(other)] = self.changes[other]
-        return self.reckoner.made_by(self.changers.changer_of(name, changing), scope)
+        return self.reckoner.meaning(self.changers.changer_of(name, changing), scope)

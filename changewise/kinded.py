@@ -8,13 +8,17 @@ _UNIT = ("unit",)
 
 
 class Part:
-    """A part of a term: its kind, a dict of the names that stand free in it, and the parts among its elements."""
+    """A part of a term: its kind, a dict of the names that stand free in it, and the parts among its elements.
+
+    code is the row of deeds that it is reckoned by, None until it is asked for (coding.py).
+    """
 
     def __init__(self, term, kind, names, parts):
         self.term = term
         self.kind = kind
         self.names = names
         self.parts = parts
+        self.code = None
 
 
 def kinded(context, term):

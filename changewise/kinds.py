@@ -39,7 +39,7 @@ def depth_of_kind(kind):
     """How deep a kind is."""
     if not is_kind(kind):
         raise InvalidKind(kind)
-    return _depth(kind)
+    return known_depth(kind)
 
 
 def _is_kind_within(value, room):
@@ -89,8 +89,11 @@ def is_known_group(kind):
     return kind[0] in ("num", "bag")
 
 
-def _depth(kind):
+def known_depth(kind):
+    """How deep what is known to be a kind is."""
     deepest = 0
     for part in kind[1:]:
-        deepest = max(deepest, _depth(part))
+        deepest = max(deepest, known_depth(part))
     return 1 + deepest
+
+

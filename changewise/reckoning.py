@@ -9,11 +9,11 @@ from changewise.groups import times_in, total_in
 
 
 class Function:
-    """The meaning of a fn: the code of its body, and what the names about it mean."""
+    """The meaning of a fn: the Part that is its body, and what the names about it mean."""
 
-    def __init__(self, name, code, scope):
+    def __init__(self, name, body, scope):
         self.name = name
-        self.code = code
+        self.body = body
         self.scope = scope
 
 
@@ -25,16 +25,16 @@ class Reckoner:
 
     def meaning(self, part, scope):
         """What a part means, the names meaning what a dict tells."""
-        return self.made_by(code_of(part), scope)
+        return self._made_by(code_of(part), scope)
 
     def told(self, function, values):
         """What the meaning of a function tells of values, one behind the other."""
         found = function
         for value in values:
-            found = self.made_by([("take", found, value)], {})
+            found = self._made_by([("take", found, value)], {})
         return found
 
-    def made_by(self, code, scope):
+    def _made_by(self, code, scope):
         """What a code makes, the names meaning what a dict tells."""
         at, made, behind = 0, [], []
         while at < len(code) or behind:
@@ -67,11 +67,11 @@ class Reckoner:
     def _entered(self, deed, made, scope):
         """The code to go on with, and what its names mean."""
         if deed[0] == "let":
-            return deed[2], {**scope, deed[1]: made.pop()}
+            return code_of(deed[2]), {**scope, deed[1]: made.pop()}
         if deed[0] == "case":
             side = made.pop()
             at = 1 if side[0] == "left" else 3
-            return deed[at + 1], {**scope, deed[at]: side[1]}
+            return code_of(deed[at + 1]), {**scope, deed[at]: side[1]}
         if deed[0] == "take":
             return self._taken(deed[1], deed[2])
         value = made.pop()
@@ -83,7 +83,7 @@ class Reckoner:
 
     def _taken(self, function, value):
         self.taken += 1
-        return function.code, {**function.scope, function.name: value}
+        return code_of(function.body), {**function.scope, function.name: value}
 
 
 def _add_up(made, kind, bag):

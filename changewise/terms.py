@@ -1,7 +1,7 @@
 """Terms: what is one, what is one as written, their parts, free names and depth."""
 
 from changewise.errors import InvalidTerm
-from changewise.kinds import depth_of_kind, is_group_kind, is_kind
+from changewise.kinds import is_group_kind, is_kind, known_depth
 from changewise.names import is_any_name, is_plain_name
 from changewise.shapes import SIGNS, all_parts, free_in, roles_in, term_places
 from changewise.values import is_whole
@@ -146,4 +146,4 @@ def _is_right(role, thing, deepest_kind, is_right_name):
     if role == "sign":
         return isinstance(thing, str) and thing in SIGNS
     known = is_group_kind(thing) if role == "group" else is_kind(thing)
-    return known and depth_of_kind(thing) <= deepest_kind
+    return known and known_depth(thing) <= deepest_kind

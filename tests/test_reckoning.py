@@ -3,7 +3,7 @@
 import unittest
 
 from changewise.groups import total_in
-from changewise.kinded import kinded
+from changewise.kinded import Part, kinded
 from changewise.kinds import is_data_kind
 from changewise.reckoning import Reckoner
 from changewise.text import read_term
@@ -89,10 +89,12 @@ class ReckoningTest(unittest.TestCase):
 
     def test_no_deep_calls_are_needed(self):
         # No term is so deep, but calls of functions that call others may be.
-        code = [("name", "x")]
+        x, one = Part(("name", "x"), NUM, {"x": True}, ()), Part(("number", 1), NUM, {}, ())
+        inner = x
         for _ in range(5000):
-            code = [("name", "x"), ("let", "x", code), ("made", 1), ("two", lambda told, one, two: one + two, None)]
-        self.assertEqual(Reckoner().made_by(code, {"x": 2}), 5002)
+            let = Part(("let", "x", x.term, inner.term), NUM, {"x": True}, (x, inner))
+            inner = Part(("plus", let.term, one.term), NUM, {"x": True}, (let, one))
+        self.assertEqual(Reckoner().meaning(inner, {"x": 2}), 5002)
 
 
 if __name__ == "__main__":
