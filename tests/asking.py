@@ -79,7 +79,8 @@ def of_parts(many):
 
 def wrong_written():
     """What is no term as written."""
-    found = [(thing, place[:12]) for thing, _, place in [(each[0], 0, each[2]["place"]) for each in wrong_terms()]]
+    # What is wrong deeper within than 12 is told where it begins to be too deep.
+    found = [(thing, attributes["place"][:12]) for thing, _, attributes in wrong_terms()]
     kind = nested(7, ("fun",), UNIT, (NUM,))
     found += [(tower(13, ONE), (1,) * 12), (("fn", "x", kind, X), (2,)), (("left", X, kind), (2,)),
               (("right", kind, X), (1,)), (("zero", ("pair", nested(6, ("pair",), NUM, (NUM,)), NUM)), (1,)),

@@ -3,14 +3,15 @@
 import unittest
 
 from changewise.desk import Desk
-from changewise.errors import InvalidLine, InvalidSheet, InvalidText, WrongTerm
-from changewise.kinding import kind_of
+from changewise.errors import InvalidLine, InvalidSheet, InvalidText
 from changewise.sheets import is_sound, kinds_in, shown
 from changewise.terms import is_written
 from changewise.text import read_sheet, read_term, read_value, show_kind, show_sheet, show_term, show_value
 from tests import oracle
 from tests.cases import Case, Stubborn, odd_things
 from tests.drawing import Drawer
+from tests.grammar import refused_at, sort_of
+from tests.test_refusals import BAD, TOKEN, Row, changed, place_of
 
 NUM, UNIT = ("num",), ("unit",)
 SHOP = ("input a: num = 3; input b: bag num = {1: 2, 5: 1}; input e: num | unit = right(()); "
@@ -440,8 +441,81 @@ class DrawnLinesTest(Case):
             kinds = dict(kinds_in(desk.sheet()))
             self.assertEqual(told, [f"{name} = {show_value(kinds[name], value)}" for name, value in shown(desk.sheet())])
 
-    def test_a_term_of_no_kind(self):
-        self.assertRaises(WrongTerm, kind_of, (), read_term("1 + ()"))
+
+def told_first(row, kinds):
+    """What is wrong first in a row of tokens of a set or change, from the left; None if nothing is."""
+    bad = [at for at, token in enumerate(row.tokens) if token in BAD]
+    tokens, seen, at = row.tokens[:bad[0]] if bad else row.tokens, [], 0
+
+    def refused(index):
+        if bad and index >= len(tokens):
+            return place_of(row.text, row.starts[bad[0]] + BAD[row.tokens[bad[0]]])
+        return place_of(row.text, row.starts[index])
+
+    while True:
+        if at >= len(tokens) or sort_of(tokens[at]) != "NAME":
+            return "bad text at {} {}".format(*refused(at))
+        name = tokens[at]
+        if name not in kinds or name in seen:
+            return f"no input {name}"
+        seen.append(name)
+        if tokens[at + 1:at + 2] != ["="]:
+            return "bad text at {} {}".format(*refused(at + 1))
+        at += 2
+        many = refused_at(kinds[name], tokens[at:])
+        many = len(tokens) - at if many is None else many
+        if refused_at(kinds[name], tokens[at:at + many]) is not None:
+            return "bad text at {} {}".format(*refused(at + many))
+        at += many
+        if at == len(tokens) and not bad:
+            return None
+        if tokens[at:at + 1] != [";"]:
+            return "bad text at {} {}".format(*refused(at))
+        at += 1
+
+
+class DrawnRefusalsTest(DeskCase):
+
+    def test_what_is_wrong_first_in_drawn_rows_of_tokens(self):
+        found = {}
+        for seed in range(400):
+            drawer = Drawer(seed)
+            sheet = drawer.sheet(3, 2, 3)
+            desk, model = Desk(), FromNothing()
+            for each in (desk, model):
+                each.say("sheet " + show_sheet(sheet))
+            line = ""
+            while not line.startswith(("set", "change")):
+                line = drawn_line(drawer, model)
+            order, _, rest = line.partition(" ")
+            kinds = {cell[1]: cell[2] if order == "set" else oracle.changes(cell[2])
+                     for cell in sheet if cell[0] == "input"}
+            held = state(desk)
+            for _ in range(12):
+                row = Row(drawer, changed(drawer, TOKEN.findall(rest)))
+                expected = told_first(row, kinds)
+                if expected is not None:
+                    with self.subTest(row.text):
+                        self.assert_same(desk.say(f"{order} {row.text}"), (expected,))
+                    found[expected[:3]] = found.get(expected[:3], 0) + 1
+            self.assert_same(state(desk), held)
+        self.assertGreater(found["bad"], 1000)
+        self.assertGreater(found["no "], 50)
+
+    def test_lines_of_any_sort(self):
+        """Whatever a line is, it is answered by a tuple of texts."""
+        words = ["sheet", "set", "change", "undo", "show", "text", "look", "hangs", "tell", "a", "b", "e", "by", "t", "=", ";",
+                 "1", "-2", "()", "(", ")", "{", "}", ":", "left(1)", "right(())", "left(left(1))", "{1: 2}", "+", "*", ",", "fn x: num.",
+                 "input", "cell", "num", " ", "\n", "#", "'", "!"]
+        for seed in range(3000):
+            drawer = Drawer(seed)
+            desk = desk_with() if drawer.chance(80) else Desk()
+            for _ in range(3):
+                order = drawer.one_of(*words[:9]) + " " if drawer.chance(90) else ""
+                line = order + " ".join(drawer.one_of(*words) for _ in range(drawer.random.randrange(8)))
+                answer = desk.say(line)
+                self.assertIs(type(answer), tuple)
+                self.assertEqual([type(each) for each in answer], [str] * len(answer))
 
 
 if __name__ == "__main__":
