@@ -137,7 +137,7 @@ def wrong_changes():
     found = [(thing, None) for thing in NO_TUPLES] + [([("x", 1)], None)]
     right = (("x", 1), ("y", ((1, 1),)))
     elements = odd_elements() + [
-        ("z",), ("z", ("right", ("left", 1)), 1), ["z", ("right", ("left", 1))], ("w", 1), ("z'", 1), ("Z", 1),
+        ("z",), ("z", ("right", ("left", 1)), 1), ["z", ("right", ("left", 1))], ("w", 1), ("zz", 1), ("z'", 1), ("Z", 1),
         ("z", True), ("z", 1), ("z", ("left", 1)), ("z", ("left", ("right", ()))), ("z", ("right", ("left", ()))),
         ("z", ["right", ("left", 1)]), (["z"], 1), (Stubborn(), 1), ("z", Stubborn()), ("x", 1), ("y", ()), (1, "z")]
     for thing in elements:
@@ -153,6 +153,8 @@ def wrong_values():
     for thing in odd_things():
         if not isinstance(thing, int) or isinstance(thing, bool):
             found += [((thing,), 0), ((1, thing), 1), ((1, thing, 1), 1)]
+    # A side may look like a value of a function's kind to what takes all kinds for data.
+    found += [((1, (), ("left", 3)), 2), ((1, (), ("right", 3)), 2)]
     found += [((1, 1), 1), ((1, ((1, 0),)), 1), ((1, [(1, 1)]), 1), ((1, (), 1), 2), ((1, (), ("fn", "x", NUM, X)), 2),
               ((1, (), None), 2), ((True, None), 0), ((1, (), 1, 1), 2)]
     return indexed(InvalidValues, found)

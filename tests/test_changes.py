@@ -337,6 +337,10 @@ class WrongArgumentsTest(AskingCase):
         self.assertIs(are_alike(SIDES, VALUE, stay, stay), False)
         self.assertIs(are_alike(SIDES, VALUE, CHANGE, stay), False)
         self.assertIs(are_alike(SIDES, VALUE, stay, CHANGE), False)
+        # What does not fit leaves the value; it is not alike to the still change for all that.
+        still = ("left", ("left", 0))
+        self.assertIs(are_alike(SIDES, VALUE, stay, still), False)
+        self.assertIs(are_alike(SIDES, VALUE, still, stay), False)
         self.assert_told(InvalidChange, {"given": bad}, are_alike, SIDES, VALUE, stay, bad)
         self.assertIs(changes_nothing(SIDES, VALUE, stay), False)
         self.assertIs(fits(SIDES, VALUE, stay), False)

@@ -113,7 +113,8 @@ REFUSED = (
     (("shown", SHEET + (("cell", "z", ("minus", ("unit",))),), (), "a", 3), ()), (("shown", list(SHEET), (), "a", 3), ()),
     (("shown", SHEET, [], "a", 3), ()), (("shown", SHEET, ((("by", 1),),), "a", 3), ()), (("shown", SHEET, ((),) * 41, "a", 3), ()),
     (("not shown", SHEET, EDITS, "s", S_VALUE), ()), (("not shown", SHEET, EDITS, "s", S_VALUE + 1), S_PAPER),
-    (("not shown", SHEET, (), "a", ()), ()), (("not shown", SHEET, (), "by", 1), ()), (("not shown", SHEET, (), "z", 1), ()),
+    (("not shown", SHEET, (), "a", ()), ()), (("not shown", SHEET, (), "by", 1), ()), (("not shown", SHEET, (), "by", ("left", 3)), ()),
+    (("shown", SHEET, (), "a", 3), (Stubborn(), ())), (("not shown", SHEET, (), "z", 1), ()),
     (("not shown", SHEET, (), "t", LEFT), ("kept", ())), (("not shown", SHEET, (), "a", True), ()),
     (("Means", TWICE, (4,), 8), ()), (("",), ()), ((), ()), (("means",), ()), (None, ()), (None, None), ("means", ()),
 )

@@ -143,7 +143,7 @@ class OrdersTest(DeskCase):
         rows = (
             ("", "bad text at 1 1"), (" ", "bad text at 1 2"), ("a", "bad text at 1 2"), ("a =", "bad text at 1 4"), ("a = 4;", "bad text at 1 7"),
             ("a = 4 b", "bad text at 1 7"), ("a = ; s = 1", "bad text at 1 5"), ("s = 1", "no input s"), ("x = 1", "no input x"), ("s", "no input s"),
-            ("s = ", "no input s"), ("s )", "no input s"), ("s!", "no input s"), ("by = 1; a = )", "no input by"), ("a = 4; a = 5", "no input a"),
+            ("s = ", "no input s"), ("s )", "no input s"), ("s!", "no input s"), ("by = 1; a = )", "no input by"), ("a = 4; a = 5", "no input a"), ("a = 4; z = (); z = ()", "no input z"), ("z = (); a = 4; a = 5; z", "no input a"),
             ("a = 4; a", "no input a"), ("a = 4; b = {}; a = )", "no input a"), ("a = 4; a = 5; x = 1", "no input a"), ("a = ); x = 1", "bad text at 1 5"),
             ("a = (1, 2)", "bad text at 1 5"), ("a = 4;; b = {}", "bad text at 1 7"), ("a == 4", "bad text at 1 3"), ("a: 4", "bad text at 1 2"),
             ("a' = 4", "bad text at 1 1"), ("in = 4", "bad text at 1 1"), ("A = 4", "bad text at 1 1"), ("1 = 4", "bad text at 1 1"),
